@@ -1,0 +1,42 @@
+package tell
+
+import (
+	"strings"
+	"testing"
+
+	"rollcall/api"
+	"rollcall/config"
+	"rollcall/core"
+)
+
+func TestWords(t *testing.T) {
+	if got := Words("a\r\nb\x00 c"); got != "ab c" {
+		t.Errorf("%q", got)
+	}
+	if got := Words(strings.Repeat("x", 250)); len(got) != 200 {
+		t.Errorf("%d bytes", len(got))
+	}
+}
+
+func TestTellingAndNaming(t *testing.T) {
+	c, _ := core.New(config.Usual())
+	c.Connect(1, "h")
+	Told(c, 1, 451)
+	Numeric(c, 1, 5, "x")
+	c.Claim(1, "ann")
+	if _, named := Named(c, "ann"); named {
+		t.Error("it isn't registered")
+	}
+	c.SetSign(1, api.Sign{User: "u"})
+	c.Register(1)
+	Told(c, 1, 401, "bob")
+	if got := string(c.Drain(1, 999)); got != ":irc.example 451 * :You have not registered\r\n:irc.example 005 * x\r\n:irc.example 401 ann bob :No such nick\r\n" {
+		t.Errorf("%q", got)
+	}
+	if p, named := Named(c, "ANN"); !named || p.Id != 1 {
+		t.Errorf("%v, %v", p, named)
+	}
+	if p, named := Named(c, "bob"); named || p != (api.Person{}) {
+		t.Errorf("%v, %v", p, named)
+	}
+}
