@@ -1,10 +1,11 @@
-// Package tell is what the commands of layers 24 to 26 have in common: how a client is told something, and who is meant by a nickname.
+// Package tell is what the commands of layers 24 to 26 have in common: how a client is told something, who is meant by a nickname, and which rooms may be seen.
 package tell
 
 import (
 	"rollcall/api"
 	"rollcall/core"
 	"rollcall/reply"
+	"rollcall/room"
 	"rollcall/valid"
 )
 
@@ -33,4 +34,11 @@ func Named(c *core.Core, nick string) (api.Person, bool) {
 		return api.Person{}, false
 	}
 	return c.Person(id)
+}
+
+// MaySee tells whether somebody may see a room.
+func MaySee(c *core.Core, id int, r *room.Room) bool {
+	_, member := r.Member(id)
+	p, _ := c.Person(id)
+	return member || p.Oper || !r.Flag('s')
 }

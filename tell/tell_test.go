@@ -40,3 +40,25 @@ func TestTellingAndNaming(t *testing.T) {
 		t.Errorf("%v, %v", p, named)
 	}
 }
+
+func TestMaySee(t *testing.T) {
+	c, _ := core.New(config.Usual())
+	for id, nick := range []string{"ann", "bob"} {
+		c.Connect(id, "h")
+		c.SetSign(id, api.Sign{User: "u"})
+		c.Claim(id, nick)
+		c.Register(id)
+	}
+	r, _ := c.Rooms().Join(0, "#a")
+	if !MaySee(c, 0, r) || !MaySee(c, 1, r) {
+		t.Error("it isn't secret")
+	}
+	r.Change(api.Change{On: true, Letter: 's'}, 0)
+	if !MaySee(c, 0, r) || MaySee(c, 1, r) {
+		t.Error("it is secret")
+	}
+	c.SetPerson(api.Person{Id: 1, Oper: true})
+	if !MaySee(c, 1, r) {
+		t.Error("an operator sees all")
+	}
+}
