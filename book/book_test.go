@@ -1,4 +1,4 @@
-package book
+package book_test
 
 import (
 	"slices"
@@ -6,13 +6,14 @@ import (
 	"testing"
 
 	"rollcall/api"
+	"rollcall/book"
 	"rollcall/fold"
 )
 
 // made is a book for at most so many, or the test ends.
-func made[V any](t *testing.T, most int) *Book[V] {
+func made[V any](t *testing.T, most int) *book.Book[V] {
 	t.Helper()
-	b, e := New[V](most)
+	b, e := book.New[V](most)
 	if e != api.OK || b == nil {
 		t.Fatalf("New(%d): %d", most, e)
 	}
@@ -20,7 +21,7 @@ func made[V any](t *testing.T, most int) *Book[V] {
 }
 
 // names are the names that a book tells from one on.
-func names(b *Book[int], from string) []string {
+func names(b *book.Book[int], from string) []string {
 	var l []string
 	for name := range b.From(from) {
 		l = append(l, name)
@@ -30,7 +31,7 @@ func names(b *Book[int], from string) []string {
 
 func TestNew(t *testing.T) {
 	for _, most := range []int{-1, -1 << 63, api.MaxBook + 1, 1<<63 - 1} {
-		if b, e := New[int](most); b != nil || e != api.ErrRange {
+		if b, e := book.New[int](most); b != nil || e != api.ErrRange {
 			t.Errorf("New(%d): %v, %d", most, b, e)
 		}
 	}
@@ -153,7 +154,7 @@ func TestAsTheyWereWhenCalled(t *testing.T) {
 }
 
 func TestNilBook(t *testing.T) {
-	var b *Book[int]
+	var b *book.Book[int]
 	if e := b.Put("a", 1); e != api.ErrArg {
 		t.Errorf("Put: %d", e)
 	}

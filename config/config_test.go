@@ -1,4 +1,4 @@
-package config
+package config_test
 
 import (
 	"slices"
@@ -6,19 +6,20 @@ import (
 	"testing"
 
 	"rollcall/api"
+	"rollcall/config"
 )
 
 // with is the usual configuration, changed.
 func with(change func(*api.Config)) api.Config {
-	c := Usual()
+	c := config.Usual()
 	change(&c)
 	return c
 }
 
 func TestUsual(t *testing.T) {
 	want := api.Config{Name: "irc.example", MaxConns: 100, MaxSend: 8192, MaxJoined: 10, MaxRooms: 100, MaxBans: 20, MaxWatch: 30, MaxMon: 30, MaxWas: 50, Ping: 60, Grace: 30, Reg: 20}
-	if Usual() != want || Check(Usual()) != api.OK {
-		t.Errorf("%v", Usual())
+	if config.Usual() != want || config.Check(config.Usual()) != api.OK {
+		t.Errorf("%v", config.Usual())
 	}
 }
 
@@ -44,7 +45,7 @@ func TestNumbers(t *testing.T) {
 			if n >= c.least && n <= c.most {
 				want = api.OK
 			}
-			if got := Check(with(func(x *api.Config) { c.set(x, n) })); got != want {
+			if got := config.Check(with(func(x *api.Config) { c.set(x, n) })); got != want {
 				t.Errorf("%s %d: %d, not %d", name, n, got, want)
 			}
 		}
@@ -63,34 +64,34 @@ func TestTexts(t *testing.T) {
 		{"irc.x", ":a", "", "", api.ErrForm}, {"irc.x", "a:", "o", "p:", api.OK}, {"irc.x", "", ":o", "p", api.ErrForm}, {"irc.x", "", "o", ":p", api.ErrForm},
 		{"irc.x", "", "o", "", api.ErrForm}, {"irc.x", "", "", "p", api.ErrForm},
 	} {
-		got := Check(with(func(x *api.Config) { x.Name, x.Pass, x.OperName, x.OperPass = c.name, c.pass, c.operName, c.operPass }))
+		got := config.Check(with(func(x *api.Config) { x.Name, x.Pass, x.OperName, x.OperPass = c.name, c.pass, c.operName, c.operPass }))
 		if got != c.want {
 			t.Errorf("%d: %d, not %d", i, got, c.want)
 		}
 	}
-	if got := Check(with(func(x *api.Config) { x.Name, x.Ping = "", 0 })); got != api.ErrForm {
+	if got := config.Check(with(func(x *api.Config) { x.Name, x.Ping = "", 0 })); got != api.ErrForm {
 		t.Errorf("the form comes first: %d", got)
 	}
-	if got := Check(api.Config{Name: "irc.x"}); got != api.ErrRange {
+	if got := config.Check(api.Config{Name: "irc.x"}); got != api.ErrRange {
 		t.Errorf("without numbers: %d", got)
 	}
 }
 
 func TestSupport(t *testing.T) {
 	want := []string{"CASEMAPPING=rfc1459", "CHANTYPES=#", "PREFIX=(ov)@+", "CHANMODES=b,k,l,imnst", "NICKLEN=16", "CHANNELLEN=50", "MODES=4", "MAXTARGETS=4", "TOPICLEN=200", "CHANLIMIT=#:10", "MAXLIST=b:20", "MONITOR=30", "WATCH=30"}
-	seq := Support(Usual())
+	seq := config.Support(config.Usual())
 	for range 2 {
 		if got := slices.Collect(seq); !slices.Equal(got, want) {
 			t.Errorf("%q", got)
 		}
 	}
-	odd := slices.Collect(Support(api.Config{MaxJoined: -1, MaxBans: 1<<63 - 1, MaxMon: 0, MaxWatch: -1 << 63}))
+	odd := slices.Collect(config.Support(api.Config{MaxJoined: -1, MaxBans: 1<<63 - 1, MaxMon: 0, MaxWatch: -1 << 63}))
 	if last := odd[9:]; !slices.Equal(last, []string{"CHANLIMIT=#:-1", "MAXLIST=b:9223372036854775807", "MONITOR=0", "WATCH=-9223372036854775808"}) {
 		t.Errorf("%q", last)
 	}
 	for stop := 1; stop <= 13; stop++ {
 		n := 0
-		for range Support(Usual()) {
+		for range config.Support(config.Usual()) {
 			if n++; n == stop {
 				break
 			}

@@ -1,4 +1,4 @@
-package core
+package core_test
 
 import (
 	"slices"
@@ -7,17 +7,18 @@ import (
 
 	"rollcall/api"
 	"rollcall/config"
+	"rollcall/core"
 )
 
 // made is a core of the usual configuration, changed.
-func made(t *testing.T, change func(*api.Config)) *Core {
+func made(t *testing.T, change func(*api.Config)) *core.Core {
 	t.Helper()
 	conf := config.Usual()
 	conf.Name = "irc.x"
 	if change != nil {
 		change(&conf)
 	}
-	c, e := New(conf)
+	c, e := core.New(conf)
 	if c == nil || e != api.OK || c.Config() != conf {
 		t.Fatalf("New: %d", e)
 	}
@@ -25,7 +26,7 @@ func made(t *testing.T, change func(*api.Config)) *Core {
 }
 
 // join connects and registers somebody, or the test ends.
-func join(t *testing.T, c *Core, id int, nick string) {
+func join(t *testing.T, c *core.Core, id int, nick string) {
 	t.Helper()
 	ok := c.Connect(id, "h")
 	c.SetSign(id, api.Sign{User: "u", Real: "r"})
@@ -35,7 +36,7 @@ func join(t *testing.T, c *Core, id int, nick string) {
 }
 
 // expect drains all that waits for somebody, and checks it.
-func expect(t *testing.T, c *Core, id int, want ...string) {
+func expect(t *testing.T, c *core.Core, id int, want ...string) {
 	t.Helper()
 	text := string(c.Drain(id, 1<<40))
 	var got []string
@@ -50,7 +51,7 @@ func expect(t *testing.T, c *Core, id int, want ...string) {
 }
 
 // fill lets so many bytes wait for somebody.
-func fill(t *testing.T, c *Core, id, n int) {
+func fill(t *testing.T, c *core.Core, id, n int) {
 	t.Helper()
 	for n > 514 {
 		c.Tell(id, strings.Repeat("x", 510))
@@ -70,7 +71,7 @@ func TestNew(t *testing.T) {
 	}{
 		{api.Config{}, api.ErrForm}, {api.Config{Name: "irc.x"}, api.ErrRange},
 	} {
-		if got, e := New(c.conf); got != nil || e != c.want {
+		if got, e := core.New(c.conf); got != nil || e != c.want {
 			t.Errorf("New: %v, %d", got, e)
 		}
 	}
@@ -478,7 +479,7 @@ func TestSpread(t *testing.T) {
 }
 
 func TestNilCore(t *testing.T) {
-	var c *Core
+	var c *core.Core
 	c.SetSign(1, api.Sign{})
 	c.SetPerson(api.Person{Id: 1})
 	c.Tell(1, "x")

@@ -1,9 +1,11 @@
-package fold
+package fold_test
 
 import (
 	"slices"
 	"strings"
 	"testing"
+
+	"rollcall/fold"
 )
 
 // plain is P1.1's folding, written as a table of pairs.
@@ -26,7 +28,7 @@ func every() string {
 
 func TestByte(t *testing.T) {
 	for b := range 256 {
-		if got, want := Byte(byte(b)), plain(byte(b)); got != want {
+		if got, want := fold.Byte(byte(b)), plain(byte(b)); got != want {
 			t.Errorf("Byte(%x) is %x, not %x", b, got, want)
 		}
 	}
@@ -36,13 +38,13 @@ func TestText(t *testing.T) {
 	for _, c := range []struct{ in, want string }{
 		{"", ""}, {"abc", "abc"}, {"ABC", "abc"}, {"A[b]~", "a{b}^"}, {`\|~^@_` + "`", "||^^@_`"}, {"ÀB", "Àb"},
 	} {
-		if got := Text(c.in); got != c.want {
+		if got := fold.Text(c.in); got != c.want {
 			t.Errorf("Text(%q) is %q, not %q", c.in, got, c.want)
 		}
 	}
 	all := every()
-	once := Text(all)
-	if len(once) != len(all) || Text(once) != once {
+	once := fold.Text(all)
+	if len(once) != len(all) || fold.Text(once) != once {
 		t.Error("what is folded must stay as it is, with as many bytes")
 	}
 }
@@ -56,17 +58,17 @@ func TestSameAndCompare(t *testing.T) {
 		{"a", "B", -1}, {"b", "A", 1}, {"a", "ab", -1}, {"AB", "a", 1}, {"Z", "[", -1}, {"]", "^", 1},
 		{"a\xff", "a\x00", 1}, {"^", "_", -1}, {"_", "a", -1}, {"[", "z", 1},
 	} {
-		if got := Compare(c.a, c.b); got != c.want {
+		if got := fold.Compare(c.a, c.b); got != c.want {
 			t.Errorf("Compare(%q, %q) is %d, not %d", c.a, c.b, got, c.want)
 		}
-		if got := Same(c.a, c.b); got != (c.want == 0) {
+		if got := fold.Same(c.a, c.b); got != (c.want == 0) {
 			t.Errorf("Same(%q, %q) is %v", c.a, c.b, got)
 		}
 	}
 	for a := range 256 {
 		for b := range 256 {
 			x, y := string([]byte{byte(a)}), string([]byte{byte(b)})
-			if got, want := Compare(x, y), strings.Compare(Text(x), Text(y)); got != want {
+			if got, want := fold.Compare(x, y), strings.Compare(fold.Text(x), fold.Text(y)); got != want {
 				t.Fatalf("Compare(%q, %q) is %d, not %d", x, y, got, want)
 			}
 		}
@@ -81,7 +83,7 @@ func TestPrefix(t *testing.T) {
 		{"", "", true}, {"a", "", true}, {"", "a", false}, {"NickX", "nICK", true}, {"Nic", "nick", false},
 		{"a[~", "A{^", true}, {"abc", "b", false}, {"abc", "abd", false}, {"abc", "ABC", true},
 	} {
-		if got := Prefix(c.s, c.head); got != c.want {
+		if got := fold.Prefix(c.s, c.head); got != c.want {
 			t.Errorf("Prefix(%q, %q) is %v", c.s, c.head, got)
 		}
 	}
@@ -94,7 +96,7 @@ func TestRuns(t *testing.T) {
 	}{
 		{"", nil}, {"a", []string{"a-"}}, {"ABc", []string{"AB+", "c-"}}, {"aB~[c", []string{"a-", "B~[+", "c-"}}, {"A", []string{"A+"}},
 	} {
-		runs := Runs(c.in)
+		runs := fold.Runs(c.in)
 		if runs == nil {
 			t.Fatalf("Runs(%q) is nil", c.in)
 		}
@@ -117,7 +119,7 @@ func TestRuns(t *testing.T) {
 func TestRunsStops(t *testing.T) {
 	for stop := 1; stop <= 3; stop++ {
 		n := 0
-		for range Runs("AbC") {
+		for range fold.Runs("AbC") {
 			n++
 			if n == stop {
 				break
@@ -131,12 +133,12 @@ func TestRunsStops(t *testing.T) {
 
 func TestRunsAreTheText(t *testing.T) {
 	all, joined, last, first := every(), "", false, true
-	for piece, turned := range Runs(all) {
+	for piece, turned := range fold.Runs(all) {
 		if piece == "" || !first && turned == last {
 			t.Errorf("%q isn't as long as can be", piece)
 		}
 		for i := range len(piece) {
-			if (Byte(piece[i]) != piece[i]) != turned {
+			if (fold.Byte(piece[i]) != piece[i]) != turned {
 				t.Errorf("%q isn't of one kind", piece)
 			}
 		}

@@ -1,4 +1,4 @@
-package frame
+package frame_test
 
 import (
 	"bytes"
@@ -7,6 +7,7 @@ import (
 	"testing"
 
 	"rollcall/api"
+	"rollcall/frame"
 )
 
 // row is a line's text of n bytes.
@@ -38,7 +39,7 @@ func TestFeed(t *testing.T) {
 	} {
 		want, rest, lost := plain(s)
 		for _, by := range []int{1, 2, 3, 7, 509, 510, 511, 512, 5000} {
-			f := New()
+			f := frame.New()
 			var got []api.Line
 			for piece := range slices.Chunk([]byte(s), by) {
 				got = append(got, f.Feed(piece)...)
@@ -46,7 +47,7 @@ func TestFeed(t *testing.T) {
 			if !slices.Equal(got, want) || f.Rest() != rest || f.Lost() != lost {
 				t.Errorf("%.20q.. of %d bytes, by %d: %d lines, %d wait, %v; not %d, %d, %v", s, len(s), by, len(got), f.Rest(), f.Lost(), len(want), rest, lost)
 			}
-			if all := slices.Collect(Lines(slices.Collect(slices.Chunk([]byte(s), by))...)); !slices.Equal(all, want) {
+			if all := slices.Collect(frame.Lines(slices.Collect(slices.Chunk([]byte(s), by))...)); !slices.Equal(all, want) {
 				t.Errorf("%.20q.. by %d: Lines tells %d, not %d", s, by, len(all), len(want))
 			}
 		}
@@ -54,7 +55,7 @@ func TestFeed(t *testing.T) {
 }
 
 func TestExample(t *testing.T) {
-	f := New()
+	f := frame.New()
 	if got := f.Feed([]byte("ab\nc")); !slices.Equal(got, []api.Line{{Text: "ab"}}) || f.Rest() != 1 || f.Lost() {
 		t.Errorf("%v, %d", got, f.Rest())
 	}
@@ -64,7 +65,7 @@ func TestExample(t *testing.T) {
 }
 
 func TestTooLong(t *testing.T) {
-	f := New()
+	f := frame.New()
 	f.Feed([]byte(row(510)))
 	if f.Rest() != 510 || f.Lost() {
 		t.Error("510 bytes aren't too many")
@@ -82,7 +83,7 @@ func TestTooLong(t *testing.T) {
 }
 
 func TestFeedKeepsNothingOfOthers(t *testing.T) {
-	f := New()
+	f := frame.New()
 	b := []byte("ab\ncd")
 	room := append(bytes.Clone(b), "!!!!"...)
 	lines := f.Feed(room[:len(b):len(room)])
@@ -97,7 +98,7 @@ func TestFeedKeepsNothingOfOthers(t *testing.T) {
 		t.Errorf("%v", lines)
 	}
 	piece := []byte("ab\n")
-	seq := Lines(piece)
+	seq := frame.Lines(piece)
 	piece[0] = '?'
 	for range 2 {
 		if got := slices.Collect(seq); !slices.Equal(got, []api.Line{{Text: "ab"}}) {
@@ -107,7 +108,7 @@ func TestFeedKeepsNothingOfOthers(t *testing.T) {
 }
 
 func TestLinesOfNothing(t *testing.T) {
-	for _, seq := range []func(func(api.Line) bool){Lines(), Lines(nil), Lines(nil, []byte("ab")), Lines([]byte("\r\n"))} {
+	for _, seq := range []func(func(api.Line) bool){frame.Lines(), frame.Lines(nil), frame.Lines(nil, []byte("ab")), frame.Lines([]byte("\r\n"))} {
 		if seq == nil {
 			t.Fatal("it is nil")
 		}
@@ -116,7 +117,7 @@ func TestLinesOfNothing(t *testing.T) {
 		}
 	}
 	n := 0
-	for range Lines([]byte("a\nb\nc\n")) {
+	for range frame.Lines([]byte("a\nb\nc\n")) {
 		n++
 		break
 	}
@@ -126,7 +127,7 @@ func TestLinesOfNothing(t *testing.T) {
 }
 
 func TestNilFramer(t *testing.T) {
-	var f *Framer
+	var f *frame.Framer
 	if got := f.Feed([]byte("a\n")); len(got) != 0 || f.Rest() != 0 || f.Lost() {
 		t.Error("a nil framer has something")
 	}

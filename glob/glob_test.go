@@ -1,10 +1,11 @@
-package glob
+package glob_test
 
 import (
 	"strings"
 	"testing"
 
 	"rollcall/fold"
+	"rollcall/glob"
 )
 
 // means is P4.1 word by word: what a star stands for is tried out.
@@ -41,13 +42,13 @@ func rows(of string, most int) []string {
 func TestMatchOfAll(t *testing.T) {
 	texts := rows("aB", 5)
 	for _, mask := range rows("Ab*?", 5) {
-		short := Short(mask)
+		short := glob.Short(mask)
 		for _, s := range texts {
 			want := means(mask, s)
-			if got := Match(mask, s); got != want {
+			if got := glob.Match(mask, s); got != want {
 				t.Fatalf("Match(%q, %q) is %v", mask, s, got)
 			}
-			if got := Match(short, s); got != want {
+			if got := glob.Match(short, s); got != want {
 				t.Fatalf("Match(%q, %q), short of %q, is %v", short, s, mask, got)
 			}
 		}
@@ -63,21 +64,21 @@ func TestMatch(t *testing.T) {
 		{"a*b", "ab", true}, {"a*b", "axxb", true}, {"a*b", "axxbc", false}, {"*.de", "x.DE", true}, {"*a*b*c*", "xaybzc", true},
 		{"a?c", "abbc", false}, {"a", "*", false}, {"*\\?", "|x", true}, {"a**", "a", true}, {"*?", "", false},
 	} {
-		if got := Match(c.mask, c.s); got != c.want {
+		if got := glob.Match(c.mask, c.s); got != c.want {
 			t.Errorf("Match(%q, %q) is %v", c.mask, c.s, got)
 		}
 	}
 	long := strings.Repeat("a", 3000)
-	if Match(strings.Repeat("*a", 40)+"b", long) || !Match(strings.Repeat("*a", 40)+"*", long) {
+	if glob.Match(strings.Repeat("*a", 40)+"b", long) || !glob.Match(strings.Repeat("*a", 40)+"*", long) {
 		t.Error("long ones")
 	}
 }
 
 func TestWildAndAny(t *testing.T) {
-	if Wild("") || Wild("abc!@") || !Wild("a*") || !Wild("?b") {
+	if glob.Wild("") || glob.Wild("abc!@") || !glob.Wild("a*") || !glob.Wild("?b") {
 		t.Error("Wild")
 	}
-	if Any("a") || Any("a", "b", "c") || !Any("a", "b", "A") || !Any("a", "*") || Any("") || !Any("", "x", "") {
+	if glob.Any("a") || glob.Any("a", "b", "c") || !glob.Any("a", "b", "A") || !glob.Any("a", "*") || glob.Any("") || !glob.Any("", "x", "") {
 		t.Error("Any")
 	}
 }
@@ -88,13 +89,13 @@ func TestComplete(t *testing.T) {
 		"a!": "a!*@*", "!b": "*!b@*", "@h": "*!*@h", "u@": "*!u@*", "a!@c": "a!*@c", "a!b!c@d": "a!b!c@d", "a!b@c@d": "a!b@c@d",
 		"u@h!x": "*!u@h!x", "@!": "*!*@!", "a!b@c!d": "a!b@c!d", "*": "*!*@*", "a b": "a b!*@*", "u@h@i": "*!u@h@i",
 	} {
-		if got := Complete(mask); got != want {
+		if got := glob.Complete(mask); got != want {
 			t.Errorf("Complete(%q) is %q, not %q", mask, got, want)
 		}
 	}
 	for _, mask := range rows("a!@", 6) {
-		whole := Complete(mask)
-		if _, _, _, ok := Cut(whole); !ok || Complete(whole) != whole {
+		whole := glob.Complete(mask)
+		if _, _, _, ok := glob.Cut(whole); !ok || glob.Complete(whole) != whole {
 			t.Errorf("Complete(%q) is %q, which is no whole mask", mask, whole)
 		}
 	}
@@ -111,7 +112,7 @@ func TestCut(t *testing.T) {
 		{"", [3]string{}, false}, {"a", [3]string{}, false}, {"a!b", [3]string{}, false}, {"a@b", [3]string{}, false},
 		{"!b@c", [3]string{}, false}, {"a!@c", [3]string{}, false}, {"a!b@", [3]string{}, false}, {"a@x!b@c", [3]string{}, false},
 	} {
-		nick, user, host, ok := Cut(c.mask)
+		nick, user, host, ok := glob.Cut(c.mask)
 		if got := [3]string{nick, user, host}; got != c.want || ok != c.ok {
 			t.Errorf("Cut(%q) is %q, %v", c.mask, got, ok)
 		}
@@ -126,7 +127,7 @@ func TestHits(t *testing.T) {
 		{"ann", true}, {"ANN", true}, {"bob", false}, {"u@h", true}, {"a*!?@h", true}, {"*@i", false}, {"", true}, {"ann!u@h", true},
 		{"ann!u@h.x", false}, {"nn", false},
 	} {
-		if got := Hits(c.mask, "ann", "u", "h"); got != c.want {
+		if got := glob.Hits(c.mask, "ann", "u", "h"); got != c.want {
 			t.Errorf("Hits(%q) is %v", c.mask, got)
 		}
 	}
@@ -136,13 +137,13 @@ func TestShort(t *testing.T) {
 	for mask, want := range map[string]string{
 		"": "", "abc": "abc", "*?**?": "??*", "**": "*", "*?": "?*", "?*": "?*", "a**b*?c": "a*b?*c", "*a?*": "*a?*", "***?x?***": "?*x?*",
 	} {
-		if got := Short(mask); got != want {
+		if got := glob.Short(mask); got != want {
 			t.Errorf("Short(%q) is %q, not %q", mask, got, want)
 		}
 	}
 	for _, mask := range rows("a*?", 7) {
-		short := Short(mask)
-		if strings.Contains(short, "**") || strings.Contains(short, "*?") || Short(short) != short {
+		short := glob.Short(mask)
+		if strings.Contains(short, "**") || strings.Contains(short, "*?") || glob.Short(short) != short {
 			t.Errorf("Short(%q) is %q", mask, short)
 		}
 	}

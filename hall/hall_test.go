@@ -1,4 +1,4 @@
-package hall
+package hall_test
 
 import (
 	"slices"
@@ -8,6 +8,7 @@ import (
 	"rollcall/api"
 	"rollcall/config"
 	"rollcall/core"
+	"rollcall/hall"
 	"rollcall/message"
 )
 
@@ -62,7 +63,7 @@ func (w world) caps(id, caps int) {
 func (w world) say(id int, line string) {
 	w.t.Helper()
 	m, e := message.Parse(line)
-	if e != api.OK || !Do(w.Core, id, m) {
+	if e != api.OK || !hall.Do(w.Core, id, m) {
 		w.t.Errorf("%d says %q: %d", id, line, e)
 	}
 }
@@ -111,12 +112,12 @@ func off(letter byte, arg string) api.Change { return api.Change{Letter: letter,
 
 func TestKnows(t *testing.T) {
 	for _, command := range strings.Fields("JOIN PART KICK TOPIC NAMES LIST INVITE MODE") {
-		if !Knows(command) || Knows(strings.ToLower(command)) {
+		if !hall.Knows(command) || hall.Knows(strings.ToLower(command)) {
 			t.Error(command)
 		}
 	}
 	for _, command := range []string{"", "NICK", "WHO", "001", "JOIN "} {
-		if Knows(command) {
+		if hall.Knows(command) {
 			t.Error(command)
 		}
 	}
@@ -124,7 +125,7 @@ func TestKnows(t *testing.T) {
 
 func TestDo(t *testing.T) {
 	w := made(t, nil).join("ann")
-	if Do(nil, 0, api.Msg{Command: "JOIN"}) || Do(w.Core, 5, api.Msg{Command: "JOIN"}) || Do(w.Core, 0, api.Msg{Command: "PING"}) || Do(w.Core, 0, api.Msg{Command: "join"}) || Do(w.Core, 0, api.Msg{}) {
+	if hall.Do(nil, 0, api.Msg{Command: "JOIN"}) || hall.Do(w.Core, 5, api.Msg{Command: "JOIN"}) || hall.Do(w.Core, 0, api.Msg{Command: "PING"}) || hall.Do(w.Core, 0, api.Msg{Command: "join"}) || hall.Do(w.Core, 0, api.Msg{}) {
 		t.Error("nothing can be done")
 	}
 	w.expect(0)
@@ -286,17 +287,17 @@ func TestNames(t *testing.T) {
 	w.be(3, func(p *api.Person) { p.Oper = true })
 	w.say(3, "NAMES #a")
 	w.expect(3, ":irc.x 353 dan @ #A :@+ann +bob @cid", ":irc.x 366 dan #A :End of NAMES list")
-	if got := Names(w.Core, 0, r); !slices.Equal(got, []string{":irc.x 353 ann @ #A :@ann +bob @cid"}) {
+	if got := hall.Names(w.Core, 0, r); !slices.Equal(got, []string{":irc.x 353 ann @ #A :@ann +bob @cid"}) {
 		t.Errorf("%q", got)
 	}
-	if len(Names(w.Core, 0, nil)) != 0 || len(Names(nil, 0, r)) != 0 {
+	if len(hall.Names(w.Core, 0, nil)) != 0 || len(hall.Names(nil, 0, r)) != 0 {
 		t.Error("of nothing")
 	}
 	w.be(3, func(p *api.Person) { p.Oper = false })
 	for _, id := range []int{0, 2} {
 		w.be(id, func(p *api.Person) { p.Hidden = true })
 	}
-	if got := Names(w.Core, 3, r); !slices.Equal(got, []string{":irc.x 353 dan @ #A :"}) {
+	if got := hall.Names(w.Core, 3, r); !slices.Equal(got, []string{":irc.x 353 dan @ #A :"}) {
 		t.Errorf("%q", got)
 	}
 }
@@ -312,7 +313,7 @@ func TestNamesOfMany(t *testing.T) {
 		w.on("#a", id)
 	}
 	r, _ := w.Rooms().Get("#a")
-	lines := Names(w.Core, 5, r)
+	lines := hall.Names(w.Core, 5, r)
 	told := ""
 	for _, line := range lines {
 		if len(line) > 510 {

@@ -1,4 +1,4 @@
-package hall
+package hall_test
 
 import (
 	"slices"

@@ -1,4 +1,4 @@
-package message
+package message_test
 
 import (
 	"slices"
@@ -6,6 +6,7 @@ import (
 	"testing"
 
 	"rollcall/api"
+	"rollcall/message"
 )
 
 // msg is a message without tags.
@@ -48,7 +49,7 @@ func TestParse(t *testing.T) {
 		"A" + strings.Repeat(" p", 16):               msg("", "A", append(many(14), "p p")...),
 		"A " + strings.Repeat("x", 508):              msg("", "A", strings.Repeat("x", 508)),
 	} {
-		if got, e := Parse(line); e != api.OK || !Same(got, want) {
+		if got, e := message.Parse(line); e != api.OK || !message.Same(got, want) {
 			t.Errorf("Parse(%q) is %v, %d, not %v", line, got, e, want)
 		}
 	}
@@ -65,7 +66,7 @@ func TestParseErrors(t *testing.T) {
 		" PING": api.ErrForm, " ": api.ErrForm, " :x PING": api.ErrForm, "PING1": api.ErrForm, "01": api.ErrForm, "0001": api.ErrForm, "00a": api.ErrForm,
 		"P-NG": api.ErrForm, ":x :y": api.ErrForm, ":x @a PING": api.ErrForm, "\xc0": api.ErrForm, "[": api.ErrForm, "`": api.ErrForm,
 	} {
-		if got, e := Parse(line); e != want || !Same(got, api.Msg{}) {
+		if got, e := message.Parse(line); e != want || !message.Same(got, api.Msg{}) {
 			t.Errorf("Parse(%q) is %v, %d, not %d", line, got, e, want)
 		}
 	}
@@ -89,15 +90,15 @@ func TestCheck(t *testing.T) {
 		{msg("", "A", long), api.OK}, {msg("", "A", ":"+long[1:]), api.ErrLong}, {msg("", "A", long+"x"), api.ErrLong}, {msg("", "A", ":a", long), api.ErrKind},
 		{tagged(msg("", "A", long[3:]), "a", ""), api.OK}, {tagged(msg("", "A", long[2:]), "a", ""), api.ErrLong}, {msg("p", "A", long[3:]), api.OK}, {msg("p", "A", long[2:]), api.ErrLong},
 	} {
-		got := Check(c.m)
+		got := message.Check(c.m)
 		if got != c.want {
 			t.Errorf("%d: %d, not %d", i, got, c.want)
 		}
-		text := Text(c.m)
+		text := message.Text(c.m)
 		if (text == "") != (c.want != api.OK) || len(text) > 510 {
 			t.Errorf("%d: the text is %q", i, text)
 		}
-		if back, e := Parse(text); c.want == api.OK && (e != api.OK || !Same(back, c.m)) {
+		if back, e := message.Parse(text); c.want == api.OK && (e != api.OK || !message.Same(back, c.m)) {
 			t.Errorf("%d: %q is read as %v, %d", i, text, back, e)
 		}
 	}
@@ -113,7 +114,7 @@ func TestText(t *testing.T) {
 		"A b :c ":                          msg("", "A", "b", "c "),
 		`@a=\s A`:                          tagged(msg("", "A"), "a", " "),
 	} {
-		if got := Text(m); got != want {
+		if got := message.Text(m); got != want {
 			t.Errorf("Text(%v) is %q, not %q", m, got, want)
 		}
 	}
@@ -127,11 +128,11 @@ func TestWrittenIsReadAsItWas(t *testing.T) {
 			for _, b := range parts {
 				for _, c := range parts {
 					m := tagged(msg(prefix, "A", a, b, c), "t", a)
-					if Check(m) != api.OK {
+					if message.Check(m) != api.OK {
 						continue
 					}
 					n++
-					if back, e := Parse(Text(m)); e != api.OK || !Same(back, m) {
+					if back, e := message.Parse(message.Text(m)); e != api.OK || !message.Same(back, m) {
 						t.Errorf("%v came back as %v, %d", m, back, e)
 					}
 				}
@@ -156,7 +157,7 @@ func TestMake(t *testing.T) {
 		{"", "A", []string{strings.Repeat("x", 508)}, "A " + strings.Repeat("x", 508)}, {"", "A", []string{strings.Repeat("x", 600)}, "A " + strings.Repeat("x", 508)},
 		{"", "A", []string{"b " + strings.Repeat("x", 600)}, "A :b " + strings.Repeat("x", 505)}, {strings.Repeat("y", 600), "A", []string{"b"}, ":" + strings.Repeat("y", 509)},
 	} {
-		if got := Make(c.prefix, c.command, c.params...); got != c.want {
+		if got := message.Make(c.prefix, c.command, c.params...); got != c.want {
 			t.Errorf("%d: %q, not %q", i, got, c.want)
 		}
 	}
@@ -164,7 +165,7 @@ func TestMake(t *testing.T) {
 
 func TestMakeChangesNothing(t *testing.T) {
 	params := []string{"", ":a b", "c\n"}
-	Make("p", "A", params...)
+	message.Make("p", "A", params...)
 	if !slices.Equal(params, []string{"", ":a b", "c\n"}) {
 		t.Errorf("the parameters became %q", params)
 	}
@@ -173,7 +174,7 @@ func TestMakeChangesNothing(t *testing.T) {
 func TestParam(t *testing.T) {
 	m := msg("", "A", "x", "")
 	for n, want := range map[int]string{0: "x", 1: "", 2: "", -1: "", -1 << 63: "", 1<<63 - 1: ""} {
-		if got := Param(m, n); got != want {
+		if got := message.Param(m, n); got != want {
 			t.Errorf("Param(%d) is %q", n, got)
 		}
 	}
@@ -181,14 +182,14 @@ func TestParam(t *testing.T) {
 
 func TestSame(t *testing.T) {
 	m := tagged(msg("p", "A", "x", "y"), "a", "b")
-	if !Same(m, tagged(msg("p", "A", "x", "y"), "a", "b")) || !Same(msg("", "A"), api.Msg{Tags: []api.Tag{}, Command: "A", Params: []string{}}) {
+	if !message.Same(m, tagged(msg("p", "A", "x", "y"), "a", "b")) || !message.Same(msg("", "A"), api.Msg{Tags: []api.Tag{}, Command: "A", Params: []string{}}) {
 		t.Error("the same")
 	}
 	for i, other := range []api.Msg{
 		tagged(msg("q", "A", "x", "y"), "a", "b"), tagged(msg("p", "B", "x", "y"), "a", "b"), tagged(msg("p", "A", "x"), "a", "b"), tagged(msg("p", "A", "y", "x"), "a", "b"),
 		tagged(msg("p", "A", "x", "y"), "a", "c"), tagged(msg("p", "A", "x", "y"), "c", "b"), msg("p", "A", "x", "y"),
 	} {
-		if Same(m, other) || Same(other, m) {
+		if message.Same(m, other) || message.Same(other, m) {
 			t.Errorf("%d is another one", i)
 		}
 	}

@@ -1,4 +1,4 @@
-package modes
+package modes_test
 
 import (
 	"slices"
@@ -7,12 +7,13 @@ import (
 	"testing"
 
 	"rollcall/api"
+	"rollcall/modes"
 )
 
 // told is what Seq tells, as a text.
 func told(row string) string {
 	out := ""
-	for letter, on := range Seq(row) {
+	for letter, on := range modes.Seq(row) {
 		out += strconv.Quote(string([]byte{letter})) + strconv.FormatBool(on) + " "
 	}
 	return out
@@ -22,7 +23,7 @@ func TestSeq(t *testing.T) {
 	for row, want := range map[string]string{
 		"": "", "+": "", "-": "", "+-": "", "ab": `"a"true "b"true `, "-a+b": `"a"false "b"true `, "a--b-+c": `"a"true "b"false "c"true `, "\xff-*": `"\xff"true "*"false `,
 	} {
-		if Seq(row) == nil {
+		if modes.Seq(row) == nil {
 			t.Fatal("it is nil")
 		}
 		if got := told(row); got != want {
@@ -30,7 +31,7 @@ func TestSeq(t *testing.T) {
 		}
 	}
 	n := 0
-	for range Seq("a-b") {
+	for range modes.Seq("a-b") {
 		n++
 		break
 	}
@@ -42,10 +43,10 @@ func TestSeq(t *testing.T) {
 func TestTakes(t *testing.T) {
 	for b := range 256 {
 		always := strings.IndexByte("ovbk", byte(b)) >= 0
-		if got := Takes(byte(b), true); got != (always || b == 'l') {
+		if got := modes.Takes(byte(b), true); got != (always || b == 'l') {
 			t.Errorf("%d on: %v", b, got)
 		}
-		if got := Takes(byte(b), false); got != always {
+		if got := modes.Takes(byte(b), false); got != always {
 			t.Errorf("%d off: %v", b, got)
 		}
 	}
@@ -71,7 +72,7 @@ func TestParse(t *testing.T) {
 		{[]string{"-x\xff", "a"}, []api.Change{off('x', ""), off(255, "")}}, {[]string{"o", "", "b"}, []api.Change{on('o', "")}}, {[]string{"o+", "-i"}, []api.Change{on('o', "-i")}},
 	} {
 		before := slices.Clone(c.params)
-		if got := Parse(c.params); !slices.Equal(got, c.want) || !slices.Equal(before, c.params) {
+		if got := modes.Parse(c.params); !slices.Equal(got, c.want) || !slices.Equal(before, c.params) {
 			t.Errorf("%d: %v, not %v", i, got, c.want)
 		}
 	}
@@ -84,7 +85,7 @@ func TestLists(t *testing.T) {
 	}{
 		{on('b', ""), true}, {off('b', ""), true}, {on('b', "x"), false}, {on('i', ""), false}, {api.Change{}, false},
 	} {
-		if got := Lists(c.c); got != c.want {
+		if got := modes.Lists(c.c); got != c.want {
 			t.Errorf("%d: %v", i, got)
 		}
 	}
@@ -99,7 +100,7 @@ func TestText(t *testing.T) {
 		{[]api.Change{on('o', "ann"), off('k', "*"), off('l', "7"), on('l', "5"), on('b', "m")}, []string{"+o-kl+lb", "ann", "*", "5", "m"}},
 		{[]api.Change{off('i', ""), off('m', ""), on('n', ""), on('b', "")}, []string{"-im+nb", ""}},
 	} {
-		if got := Text(c.l); !slices.Equal(got, c.want) {
+		if got := modes.Text(c.l); !slices.Equal(got, c.want) {
 			t.Errorf("%d: %q, not %q", i, got, c.want)
 		}
 	}
@@ -113,11 +114,11 @@ func TestWrittenIsToldAgain(t *testing.T) {
 			for i := range n {
 				params = append(params, "a"+strconv.Itoa(i))
 			}
-			l := Parse(params)
-			if slices.ContainsFunc(l, Lists) {
+			l := modes.Parse(params)
+			if slices.ContainsFunc(l, modes.Lists) {
 				continue
 			}
-			if again := Parse(Text(l)); !slices.Equal(again, l) {
+			if again := modes.Parse(modes.Text(l)); !slices.Equal(again, l) {
 				t.Errorf("%q: %v came back as %v", params, l, again)
 			}
 		}

@@ -1,4 +1,4 @@
-package pulse
+package pulse_test
 
 import (
 	"iter"
@@ -6,11 +6,12 @@ import (
 	"testing"
 
 	"rollcall/api"
+	"rollcall/pulse"
 )
 
 // made is a pulse with these numbers.
-func made(ping, grace, reg int) *Pulse {
-	return New(api.Config{Ping: ping, Grace: grace, Reg: reg})
+func made(ping, grace, reg int) *pulse.Pulse {
+	return pulse.New(api.Config{Ping: ping, Grace: grace, Reg: reg})
 }
 
 // told is what is due, as a text.
@@ -23,7 +24,7 @@ func told(seq iter.Seq2[int, int]) string {
 }
 
 // expect checks what is due at a tick.
-func expect(t *testing.T, p *Pulse, now int, want string) {
+func expect(t *testing.T, p *pulse.Pulse, now int, want string) {
 	t.Helper()
 	if got := told(p.Due(now)); got != want {
 		t.Errorf("at %d: %q, not %q", now, got, want)
@@ -192,7 +193,7 @@ func TestNeverDeadWithLines(t *testing.T) {
 }
 
 func TestNilPulse(t *testing.T) {
-	var p *Pulse
+	var p *pulse.Pulse
 	p.Join(1, 0)
 	p.Register(1, 0)
 	p.Line(1, 0)

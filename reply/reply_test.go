@@ -1,4 +1,4 @@
-package reply
+package reply_test
 
 import (
 	"slices"
@@ -7,6 +7,7 @@ import (
 	"testing"
 
 	"rollcall/message"
+	"rollcall/reply"
 )
 
 // many are n parameters.
@@ -15,10 +16,10 @@ func many(n int) []string {
 }
 
 func TestWho(t *testing.T) {
-	if got := Who("ann", "u", "h"); got != "ann!u@h" {
+	if got := reply.Who("ann", "u", "h"); got != "ann!u@h" {
 		t.Errorf("%q", got)
 	}
-	if got := Who("", " ", "\n"); got != "! @\n" {
+	if got := reply.Who("", " ", "\n"); got != "! @\n" {
 		t.Errorf("%q", got)
 	}
 }
@@ -38,7 +39,7 @@ func TestNumeric(t *testing.T) {
 		{"irc.x", 5, "a", many(14), ":irc.x 005 a" + strings.Repeat(" p", 14)}, {"irc.x", 5, "a", many(15), ""}, {"irc.x", 5, "a", many(100), ""},
 		{"irc.x", 5, "a", []string{strings.Repeat("x", 600)}, ":irc.x 005 a " + strings.Repeat("x", 497)},
 	} {
-		if got := Numeric(c.server, c.code, c.to, c.params...); got != c.want {
+		if got := reply.Numeric(c.server, c.code, c.to, c.params...); got != c.want {
 			t.Errorf("%d: %q, not %q", i, got, c.want)
 		}
 	}
@@ -72,11 +73,11 @@ func wordsOf() map[int]string {
 func TestWord(t *testing.T) {
 	want := wordsOf()
 	for code := -5; code < 1500; code++ {
-		if got := Word(code); got != want[code] {
+		if got := reply.Word(code); got != want[code] {
 			t.Errorf("Word(%d) is %q, not %q", code, got, want[code])
 		}
 	}
-	if Word(-1<<63) != "" || Word(1<<63-1) != "" {
+	if reply.Word(-1<<63) != "" || reply.Word(1<<63-1) != "" {
 		t.Error("words of no numeric")
 	}
 }
@@ -92,7 +93,7 @@ func TestTold(t *testing.T) {
 		{0, "ann", nil, ""}, {461, "ann", many(13), ":irc.x 461 ann" + strings.Repeat(" p", 13) + " :Not enough parameters"}, {461, "ann", many(14), ""},
 		{401, "ann", []string{""}, ":irc.x 401 ann * :No such nick"},
 	} {
-		if got := Told("irc.x", c.code, c.to, c.params...); got != c.want {
+		if got := reply.Told("irc.x", c.code, c.to, c.params...); got != c.want {
 			t.Errorf("%d: %q, not %q", i, got, c.want)
 		}
 	}
@@ -116,7 +117,7 @@ func plainPack(server string, code int, to string, head, words []string) []strin
 		for n < len(words) && size(strings.Join(words[:n+1], " ")) <= 510 {
 			n++
 		}
-		lines = append(lines, Numeric(server, code, to, append(slices.Clone(head), strings.Join(words[:n], " "))...))
+		lines = append(lines, reply.Numeric(server, code, to, append(slices.Clone(head), strings.Join(words[:n], " "))...))
 		words = words[n:]
 	}
 	return lines
@@ -135,7 +136,7 @@ func TestPackOfManyWords(t *testing.T) {
 				words = append(words, ":c", ":"+strings.Repeat("c", 20+i))
 			}
 		}
-		got, want := Pack("irc.x", 353, "ann", head, slices.Values(words)), plainPack("irc.x", 353, "ann", head, words)
+		got, want := reply.Pack("irc.x", 353, "ann", head, slices.Values(words)), plainPack("irc.x", 353, "ann", head, words)
 		if !slices.Equal(got, want) {
 			t.Errorf("with a head of %d: %q, not %q", headSize, got, want)
 		}
@@ -160,11 +161,11 @@ func TestPack(t *testing.T) {
 		{5, nil, []string{strings.Repeat("x", 600), "y"}, []string{":irc.x 005 ann " + strings.Repeat("x", 495), ":irc.x 005 ann y"}},
 		{5, nil, []string{"y", strings.Repeat("x", 495), "z"}, []string{":irc.x 005 ann y", ":irc.x 005 ann " + strings.Repeat("x", 495), ":irc.x 005 ann z"}},
 	} {
-		if got := Pack("irc.x", c.code, "ann", c.head, slices.Values(c.words)); !slices.Equal(got, c.want) {
+		if got := reply.Pack("irc.x", c.code, "ann", c.head, slices.Values(c.words)); !slices.Equal(got, c.want) {
 			t.Errorf("%d: %q, not %q", i, got, c.want)
 		}
 	}
-	if got := Pack("irc.x", 5, "", nil, nil); !slices.Equal(got, []string{":irc.x 005 * :"}) {
+	if got := reply.Pack("irc.x", 5, "", nil, nil); !slices.Equal(got, []string{":irc.x 005 * :"}) {
 		t.Errorf("nil words: %q", got)
 	}
 }
@@ -172,9 +173,9 @@ func TestPack(t *testing.T) {
 func TestWhatIsHandedInStays(t *testing.T) {
 	room := []string{"a", "b", "beyond"}
 	params := room[:2]
-	Numeric("irc.x", 5, "ann", params...)
-	Told("irc.x", 401, "ann", params...)
-	Pack("irc.x", 5, "ann", params, slices.Values([]string{"x"}))
+	reply.Numeric("irc.x", 5, "ann", params...)
+	reply.Told("irc.x", 401, "ann", params...)
+	reply.Pack("irc.x", 5, "ann", params, slices.Values([]string{"x"}))
 	if !slices.Equal(room, []string{"a", "b", "beyond"}) {
 		t.Errorf("%q", room)
 	}

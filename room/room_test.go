@@ -1,4 +1,4 @@
-package room
+package room_test
 
 import (
 	"slices"
@@ -7,6 +7,7 @@ import (
 	"testing"
 
 	"rollcall/api"
+	"rollcall/room"
 )
 
 // on and off are changes.
@@ -14,7 +15,7 @@ func on(letter byte, arg string) api.Change  { return api.Change{On: true, Lette
 func off(letter byte, arg string) api.Change { return api.Change{Letter: letter, Arg: arg} }
 
 // expect makes a change, and checks what it answers and what the modes are then.
-func expect(t *testing.T, r *Room, c api.Change, id int, made api.Change, code int, modes string) {
+func expect(t *testing.T, r *room.Room, c api.Change, id int, made api.Change, code int, modes string) {
 	t.Helper()
 	got, n := r.Change(c, id)
 	if got != made || n != code {
@@ -26,7 +27,7 @@ func expect(t *testing.T, r *Room, c api.Change, id int, made api.Change, code i
 }
 
 func TestNew(t *testing.T) {
-	r := New("#a b", 5)
+	r := room.New("#a b", 5)
 	if r.Name() != "#a b" || r.Len() != 0 || r.Topic() != "" || len(slices.Collect(r.Members())) != 0 || len(slices.Collect(r.Bans())) != 0 {
 		t.Error("a new room has something")
 	}
@@ -38,7 +39,7 @@ func TestNew(t *testing.T) {
 }
 
 func TestMembers(t *testing.T) {
-	r := New("#a", 5)
+	r := room.New("#a", 5)
 	for _, id := range []int{3, -1, 7} {
 		r.Add(id, id == 3)
 	}
@@ -73,7 +74,7 @@ func TestMembers(t *testing.T) {
 }
 
 func TestTopic(t *testing.T) {
-	r := New("#a", 5)
+	r := room.New("#a", 5)
 	r.SetTopic("a\r\nb\x00 " + strings.Repeat("x", 300))
 	if got := r.Topic(); got != "ab "+strings.Repeat("x", 197) {
 		t.Errorf("%q", got)
@@ -85,7 +86,7 @@ func TestTopic(t *testing.T) {
 }
 
 func TestMayJoin(t *testing.T) {
-	r := New("#a", 5)
+	r := room.New("#a", 5)
 	who := "ann!u@h"
 	check := func(id int, key string, want int) {
 		t.Helper()
@@ -119,7 +120,7 @@ func TestMayJoin(t *testing.T) {
 }
 
 func TestWhoIsAMemberStaysInvited(t *testing.T) {
-	r := New("#a", 5)
+	r := room.New("#a", 5)
 	r.Add(1, false)
 	r.Invite(1)
 	r.Add(1, true)
@@ -135,7 +136,7 @@ func TestWhoIsAMemberStaysInvited(t *testing.T) {
 func TestMaySpeak(t *testing.T) {
 	for _, flags := range []string{"", "n", "m", "nm"} {
 		for _, banned := range []bool{false, true} {
-			r := New("#a", 5)
+			r := room.New("#a", 5)
 			r.Change(off('n', ""), 0)
 			for i := range len(flags) {
 				r.Change(on(flags[i], ""), 0)
@@ -157,7 +158,7 @@ func TestMaySpeak(t *testing.T) {
 }
 
 func TestFlags(t *testing.T) {
-	r := New("#a", 5)
+	r := room.New("#a", 5)
 	expect(t, r, on('i', "x"), 0, on('i', ""), 0, "+int")
 	expect(t, r, on('i', ""), 0, api.Change{}, 0, "+int")
 	expect(t, r, on('n', ""), 0, api.Change{}, 0, "+int")
@@ -177,7 +178,7 @@ func TestFlags(t *testing.T) {
 }
 
 func TestMarks(t *testing.T) {
-	r := New("#a", 5)
+	r := room.New("#a", 5)
 	r.Add(1, false)
 	expect(t, r, on('o', "Ann"), 1, on('o', "Ann"), 0, "+nt")
 	expect(t, r, on('o', "Ann"), 1, api.Change{}, 0, "+nt")
@@ -193,7 +194,7 @@ func TestMarks(t *testing.T) {
 }
 
 func TestKey(t *testing.T) {
-	r := New("#a", 5)
+	r := room.New("#a", 5)
 	expect(t, r, off('k', "x"), 0, api.Change{}, 0, "+nt")
 	for _, key := range []string{"", "a b", "a,b", ":a", strings.Repeat("x", 24)} {
 		expect(t, r, on('k', key), 0, api.Change{}, 475, "+nt")
@@ -211,7 +212,7 @@ func TestKey(t *testing.T) {
 }
 
 func TestLimit(t *testing.T) {
-	r := New("#a", 5)
+	r := room.New("#a", 5)
 	for _, arg := range []string{"", "0", "01", "10000", "-1", "+1", "1a", "a", " 1", "1 "} {
 		expect(t, r, on('l', arg), 0, api.Change{}, 0, "+nt")
 	}
@@ -224,7 +225,7 @@ func TestLimit(t *testing.T) {
 }
 
 func TestBans(t *testing.T) {
-	r := New("#a", 3)
+	r := room.New("#a", 3)
 	bans := func(want ...string) {
 		t.Helper()
 		if got := slices.Collect(r.Bans()); !slices.Equal(got, want) {
@@ -254,12 +255,12 @@ func TestBans(t *testing.T) {
 	if got := slices.Collect(seq); !slices.Equal(got, []string{"Bob[!*@*", "*!u@h", "a!b@c"}) {
 		t.Errorf("as they were: %q", got)
 	}
-	none := New("#b", -1)
+	none := room.New("#b", -1)
 	expect(t, none, on('b', "x"), 0, api.Change{}, 478, "+nt")
 }
 
 func TestNilRoom(t *testing.T) {
-	var r *Room
+	var r *room.Room
 	r.Add(1, true)
 	r.SetTopic("x")
 	r.Invite(1)
@@ -278,7 +279,7 @@ func TestNilRoom(t *testing.T) {
 }
 
 func TestManyMembers(t *testing.T) {
-	r := New("#a", 5)
+	r := room.New("#a", 5)
 	for i := range 500 {
 		r.Add(i*37%500, false)
 	}

@@ -1,4 +1,4 @@
-package rooms
+package rooms_test
 
 import (
 	"iter"
@@ -10,13 +10,14 @@ import (
 	"rollcall/api"
 	"rollcall/config"
 	"rollcall/room"
+	"rollcall/rooms"
 )
 
 // made are rooms for at most so many, and so many of a client.
-func made(rooms, joined int) *Rooms {
+func made(most, joined int) *rooms.Rooms {
 	c := config.Usual()
-	c.MaxRooms, c.MaxJoined, c.MaxBans = rooms, joined, 1
-	return New(c)
+	c.MaxRooms, c.MaxJoined, c.MaxBans = most, joined, 1
+	return rooms.New(c)
 }
 
 // names are the names of some rooms.
@@ -29,7 +30,7 @@ func names(seq iter.Seq[*room.Room]) string {
 }
 
 // join puts a client on rooms, or the test ends.
-func join(t *testing.T, r *Rooms, id int, names ...string) {
+func join(t *testing.T, r *rooms.Rooms, id int, names ...string) {
 	t.Helper()
 	for _, name := range names {
 		if one, n := r.Join(id, name); one == nil || n != 0 {
@@ -177,7 +178,7 @@ func TestPeersAndCommon(t *testing.T) {
 }
 
 func TestNilRooms(t *testing.T) {
-	var r *Rooms
+	var r *rooms.Rooms
 	one, ok := r.Get("#a")
 	joined, n := r.Join(1, "#a")
 	if one != nil || ok || joined != nil || n != 405 || r.Part(1, "#a") || r.Leave(1) != 0 || r.Count(1) != 0 || r.Len() != 0 || r.Common(1, 1) {
@@ -193,7 +194,7 @@ func TestNilRooms(t *testing.T) {
 
 func TestOddConfigurations(t *testing.T) {
 	for _, c := range []api.Config{{}, {MaxRooms: -1, MaxJoined: -1}, {MaxRooms: 5, MaxJoined: -5}, {MaxRooms: -5, MaxJoined: 5}, {MaxRooms: 1 << 62, MaxJoined: 1 << 62}} {
-		r := New(c)
+		r := rooms.New(c)
 		r.Join(1, "#a")
 		r.Part(1, "#a")
 		r.Leave(1)

@@ -1,4 +1,4 @@
-package script
+package script_test
 
 import (
 	"bytes"
@@ -8,6 +8,7 @@ import (
 
 	"rollcall/api"
 	"rollcall/config"
+	"rollcall/script"
 )
 
 // usual is the usual configuration, with another name.
@@ -21,17 +22,17 @@ func TestQuote(t *testing.T) {
 	for s, want := range map[string]string{
 		"": `""`, "abc": `"abc"`, "PING x\r\n": `"PING x\r\n"`, `"\`: `"\"\\"`, "\x00\t\x1f\x7f\x80\xff": `"\x00\x09\x1f\x7f\x80\xff"`, " ~'": `" ~'"`, "ä": `"\xc3\xa4"`, "rn": `"rn"`,
 	} {
-		if got := Quote([]byte(s)); got != want {
+		if got := script.Quote([]byte(s)); got != want {
 			t.Errorf("Quote(%q) is %s, not %s", s, got, want)
 		}
-		if got, ok := Unquote(want); string(got) != s || !ok {
+		if got, ok := script.Unquote(want); string(got) != s || !ok {
 			t.Errorf("Unquote(%s) is %q, %v", want, got, ok)
 		}
 	}
 	for a := range 256 {
 		for _, b := range []byte("a\"\\rnx0\n\xff") {
 			s := []byte{byte(a), b, byte(a)}
-			if got, ok := Unquote(Quote(s)); !ok || !bytes.Equal(got, s) {
+			if got, ok := script.Unquote(script.Quote(s)); !ok || !bytes.Equal(got, s) {
 				t.Fatalf("%q came back as %q", s, got)
 			}
 		}
@@ -42,7 +43,7 @@ func TestNoQuotes(t *testing.T) {
 	for _, s := range []string{
 		"", `"`, `a`, `"a`, `a"`, `"a"b`, ` ""`, `"" `, `"""`, `"\"`, `"\a"`, `"\x"`, `"\x0"`, `"\x00`, `"\x41"`, `"\xFF"`, `"\xfg"`, `"\xg0"`, `"\xf"`, `"\x0a"`, `"\x0d"`, `"\x5c"`, `"\x22"`, "\"\n\"", "\"\xff\"", "\"\x7f\"", `'a'`, `"\ "`, `"\`, `\""`,
 	} {
-		if got, ok := Unquote(s); ok || len(got) != 0 {
+		if got, ok := script.Unquote(s); ok || len(got) != 0 {
 			t.Errorf("Unquote(%q) is %q", s, got)
 		}
 	}
@@ -50,7 +51,9 @@ func TestNoQuotes(t *testing.T) {
 
 // equal tells whether two lists of events are the same.
 func equal(a, b []api.Event) bool {
-	return slices.EqualFunc(a, b, same)
+	return slices.EqualFunc(a, b, func(x, y api.Event) bool {
+		return x.Kind == y.Kind && x.Id == y.Id && x.Host == y.Host && x.N == y.N && bytes.Equal(x.B, y.B)
+	})
 }
 
 func TestParse(t *testing.T) {
@@ -60,12 +63,12 @@ func TestParse(t *testing.T) {
 		{Kind: api.EvDrain, Id: 1, N: 99}, {Kind: api.EvDrain}, {Kind: api.EvClose, Id: 1}, {Kind: api.EvTick},
 	}
 	for _, text := range []string{text, text + "\n", text + "\n\n#", "\n" + text} {
-		if l, n, e := Parse(text); !equal(l, want) || n != 0 || e != api.OK {
+		if l, n, e := script.Parse(text); !equal(l, want) || n != 0 || e != api.OK {
 			t.Errorf("%v, %d, %d", l, n, e)
 		}
 	}
 	for _, text := range []string{"", "\n", "#", "\n#tick\n\n"} {
-		if l, n, e := Parse(text); len(l) != 0 || n != 0 || e != api.OK {
+		if l, n, e := script.Parse(text); len(l) != 0 || n != 0 || e != api.OK {
 			t.Errorf("Parse(%q): %v, %d, %d", text, l, n, e)
 		}
 	}
@@ -81,7 +84,7 @@ func TestParseErrors(t *testing.T) {
 	} {
 		for ahead, number := range map[string]int{"": 1, "tick\n": 2, "#x\n\n": 3} {
 			for _, behind := range []string{"", "\n", "\nx y\n"} {
-				if l, n, e := Parse(ahead + line + behind); len(l) != 0 || n != number || e != want {
+				if l, n, e := script.Parse(ahead + line + behind); len(l) != 0 || n != number || e != want {
 					t.Errorf("%q: %v, %d, %d", ahead+line+behind, l, n, e)
 				}
 			}
@@ -95,14 +98,14 @@ func TestText(t *testing.T) {
 		{Kind: api.EvDrain, Id: 5, N: 999999999}, {Kind: api.EvDrain}, {Kind: api.EvClose, Id: 10}, {Kind: api.EvTick},
 	}
 	want := "connect 1 h\nconnect 0  #\"\xff\x00\nsend 999999999 \"a\\\"\\\\\\r\\n\\x00\\xffz\"\nsend 0 \"\"\ndrain 5 999999999\ndrain 0 0\nclose 10\ntick\n"
-	text, ok := Text(l)
+	text, ok := script.Text(l)
 	if text != want || !ok {
 		t.Errorf("%q, %v", text, ok)
 	}
-	if back, _, e := Parse(text); e != api.OK || !equal(back, l) {
+	if back, _, e := script.Parse(text); e != api.OK || !equal(back, l) {
 		t.Errorf("%v, %d", back, e)
 	}
-	if text, ok := Text(nil); text != "" || !ok {
+	if text, ok := script.Text(nil); text != "" || !ok {
 		t.Errorf("of nothing: %q, %v", text, ok)
 	}
 }
@@ -115,7 +118,7 @@ func TestWhatNoLineSays(t *testing.T) {
 		{Kind: api.EvDrain, N: -1}, {Kind: api.EvDrain, N: 1000000000}, {Kind: api.EvDrain, Id: -5}, {Kind: api.EvDrain, Host: "h"}, {Kind: api.EvDrain, B: []byte("x")}, {Kind: api.EvClose, Id: -1}, {Kind: api.EvClose, N: 1}, {Kind: api.EvClose, Host: "h"},
 		{Kind: api.EvClose, Id: 1<<63 - 1}, {Kind: api.EvDrain, N: -1 << 63},
 	} {
-		if text, ok := Text([]api.Event{{Kind: api.EvTick}, e, {Kind: api.EvTick}}); text != "" || ok {
+		if text, ok := script.Text([]api.Event{{Kind: api.EvTick}, e, {Kind: api.EvTick}}); text != "" || ok {
 			t.Errorf("%d: %q", i, text)
 		}
 	}
@@ -127,21 +130,21 @@ func TestPlay(t *testing.T) {
 		"connect 1 h\nsend 1 \"PING x\\nPING \\xff\\n\"\ndrain 1 3\ndrain 1 0\ndrain 2 9\ndrain 1 99\ndrain 1 99": {`1 ":ir"`, `1 "c.x PONG irc.x x\r\n:irc.x PONG irc.x \xff\r\n"`},
 		"connect 1 h\nsned 1 \"\"\n": {"line 2 error 8"}, "\n\nclose": {"line 3 error 4"},
 	} {
-		if got := Play(usual(), text); !slices.Equal(got, want) {
+		if got := script.Play(usual(), text); !slices.Equal(got, want) {
 			t.Errorf("Play(%q): %q", text, got)
 		}
 	}
 	for _, text := range []string{"", "tick\n"} {
-		if got := Play(api.Config{}, text); !slices.Equal(got, []string{"error 4"}) {
+		if got := script.Play(api.Config{}, text); !slices.Equal(got, []string{"error 4"}) {
 			t.Errorf("%q", got)
 		}
 	}
 	c := usual()
 	c.Reg = 0
-	if got := Play(c, "connect 1 h"); !slices.Equal(got, []string{"error 2"}) {
+	if got := script.Play(c, "connect 1 h"); !slices.Equal(got, []string{"error 2"}) {
 		t.Errorf("%q", got)
 	}
-	if got := Play(c, "x"); !slices.Equal(got, []string{"line 1 error 8"}) {
+	if got := script.Play(c, "x"); !slices.Equal(got, []string{"line 1 error 8"}) {
 		t.Errorf("%q", got)
 	}
 }
@@ -149,7 +152,7 @@ func TestPlay(t *testing.T) {
 func TestRows(t *testing.T) {
 	b := []byte("PING x\n")
 	l := []api.Event{{Kind: api.EvConnect, Id: 1, Host: "h"}, {Kind: api.EvBytes, Id: 1, B: b}, {Kind: api.EvDrain, Id: 1, N: 5}, {Kind: api.EvDrain, Id: 1, N: 99}}
-	seq := Rows(usual(), l)
+	seq := script.Rows(usual(), l)
 	if seq == nil {
 		t.Fatal("it is nil")
 	}
@@ -165,7 +168,7 @@ func TestRows(t *testing.T) {
 		}
 		break
 	}
-	for row := range Rows(api.Config{}, l) {
+	for row := range script.Rows(api.Config{}, l) {
 		if row != "error 4" {
 			t.Errorf("%q", row)
 		}
@@ -178,7 +181,7 @@ func TestALongerScript(t *testing.T) {
 		`connect 1 h`, `connect 2 g`, `send 1 "NICK ann\r\nUSER u 0 * r\r\n"`, `send 2 "NICK bob\r\nUSER v 0 * s\r\nCAP REQ away-notify\r\n"`, `drain 1 9999`, `drain 2 9999`,
 		`send 1 "JOIN #a\n"`, `drain 1 9999`, `send 2 "JOIN #a\n"`, `drain 2 9999`, `drain 1 9999`, `send 1 "AWAY out\n"`, `drain 2 9999`, `send 1 "AWAY out\n"`, `drain 2 9999`, `close 1`, `drain 2 9999`, ``,
 	}, "\n")
-	got := Play(usual(), text)
+	got := script.Play(usual(), text)
 	want := []string{
 		`1 ":ann!u@h JOIN #a\r\n:irc.x 353 ann = #a @ann\r\n:irc.x 366 ann #a :End of NAMES list\r\n"`,
 		`2 ":bob!v@g JOIN #a\r\n:irc.x 353 bob = #a :@ann bob\r\n:irc.x 366 bob #a :End of NAMES list\r\n"`,

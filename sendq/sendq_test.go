@@ -1,4 +1,4 @@
-package sendq
+package sendq_test
 
 import (
 	"slices"
@@ -6,12 +6,13 @@ import (
 	"testing"
 
 	"rollcall/api"
+	"rollcall/sendq"
 )
 
 // made is a queue of at most so many bytes, or the test ends.
-func made(t *testing.T, most int) *Queue {
+func made(t *testing.T, most int) *sendq.Queue {
 	t.Helper()
-	q, e := New(most)
+	q, e := sendq.New(most)
 	if q == nil || e != api.OK {
 		t.Fatalf("New(%d): %d", most, e)
 	}
@@ -19,13 +20,13 @@ func made(t *testing.T, most int) *Queue {
 }
 
 // lines are the lines that wait whole.
-func lines(q *Queue) []string {
+func lines(q *sendq.Queue) []string {
 	return slices.Collect(q.Lines())
 }
 
 func TestNew(t *testing.T) {
 	for _, most := range []int{511, 0, -1, -1 << 63, 65537, 1<<63 - 1} {
-		if q, e := New(most); q != nil || e != api.ErrRange {
+		if q, e := sendq.New(most); q != nil || e != api.ErrRange {
 			t.Errorf("New(%d): %v, %d", most, q, e)
 		}
 	}
@@ -162,7 +163,7 @@ func TestLinesAsTheyWere(t *testing.T) {
 }
 
 func TestNilQueue(t *testing.T) {
-	var q *Queue
+	var q *sendq.Queue
 	if q.Push("a") || len(q.Drain(5)) != 0 || q.Len() != 0 || q.Over() || q.Sent() != 0 {
 		t.Error("a nil queue has something")
 	}

@@ -1,4 +1,4 @@
-package serve
+package serve_test
 
 import (
 	"bytes"
@@ -7,17 +7,18 @@ import (
 
 	"rollcall/api"
 	"rollcall/config"
+	"rollcall/serve"
 )
 
 // made is a server of the usual configuration, changed.
-func made(t *testing.T, change func(*api.Config)) *Server {
+func made(t *testing.T, change func(*api.Config)) *serve.Server {
 	t.Helper()
 	conf := config.Usual()
 	conf.Name = "irc.x"
 	if change != nil {
 		change(&conf)
 	}
-	s, e := New(conf)
+	s, e := serve.New(conf)
 	if s == nil || e != api.OK {
 		t.Fatalf("New: %d", e)
 	}
@@ -34,7 +35,7 @@ func end(id int) api.Event      { return api.Event{Kind: api.EvClose, Id: id} }
 func tick() api.Event           { return api.Event{Kind: api.EvTick} }
 
 // login connects and registers somebody, and drains what it is told.
-func login(t *testing.T, s *Server, id int, nick string) {
+func login(t *testing.T, s *serve.Server, id int, nick string) {
 	t.Helper()
 	s.Step(connect(id))
 	s.Step(send(id, "NICK "+nick+"\r\nUSER u 0 * r\r\n"))
@@ -45,7 +46,7 @@ func login(t *testing.T, s *Server, id int, nick string) {
 }
 
 // expect drains all that waits for somebody, and checks it.
-func expect(t *testing.T, s *Server, id int, want ...string) {
+func expect(t *testing.T, s *serve.Server, id int, want ...string) {
 	t.Helper()
 	text := ""
 	for _, line := range want {
@@ -57,10 +58,10 @@ func expect(t *testing.T, s *Server, id int, want ...string) {
 }
 
 func TestNew(t *testing.T) {
-	if s, e := New(api.Config{}); s != nil || e != api.ErrForm {
+	if s, e := serve.New(api.Config{}); s != nil || e != api.ErrForm {
 		t.Errorf("%v, %d", s, e)
 	}
-	if s, e := New(api.Config{Name: "irc.x"}); s != nil || e != api.ErrRange {
+	if s, e := serve.New(api.Config{Name: "irc.x"}); s != nil || e != api.ErrRange {
 		t.Errorf("%v, %d", s, e)
 	}
 }
@@ -216,7 +217,7 @@ func TestRun(t *testing.T) {
 }
 
 func TestNilServer(t *testing.T) {
-	for _, s := range []*Server{nil, {}} {
+	for _, s := range []*serve.Server{nil, {}} {
 		s.Line(1, api.Line{Text: "PING x"})
 		if got := s.Step(connect(1)); len(got) != 0 {
 			t.Errorf("%q", got)

@@ -1,4 +1,4 @@
-package serve
+package serve_test
 
 import (
 	"bytes"
@@ -10,6 +10,7 @@ import (
 	"rollcall/api"
 	"rollcall/fold"
 	"rollcall/message"
+	"rollcall/serve"
 )
 
 // dice draws numbers, always the same ones of one start.
@@ -93,7 +94,7 @@ func (d *dice) event() api.Event {
 }
 
 // check finds what may not be behind an event.
-func check(t *testing.T, s *Server, e api.Event) {
+func check(t *testing.T, s *serve.Server, e api.Event) {
 	t.Helper()
 	if s.Settle() != 0 {
 		t.Fatalf("behind %v somebody is dying", e)
@@ -158,7 +159,7 @@ func (k seen) learn(t *testing.T, id int, m api.Msg, yes, no []string, off strin
 }
 
 // agree finds whether a watcher was told the state of each nickname on its list, and forgets the others.
-func (k seen) agree(t *testing.T, s *Server, id int, list func(func(string) bool), e api.Event) {
+func (k seen) agree(t *testing.T, s *serve.Server, id int, list func(func(string) bool), e api.Event) {
 	t.Helper()
 	on := map[string]bool{}
 	for name := range list {

@@ -1,10 +1,12 @@
-package set
+package set_test
 
 import (
 	"iter"
 	"math"
 	"slices"
 	"testing"
+
+	"rollcall/set"
 )
 
 // told is what a function tells.
@@ -18,7 +20,7 @@ func told[T any](t *testing.T, seq iter.Seq[T]) []T {
 
 func TestOf(t *testing.T) {
 	l := []int{3, 1, 2, 3, 1, math.MinInt, math.MaxInt}
-	s := Of(l...)
+	s := set.Of(l...)
 	if got := s.List(); !slices.Equal(got, []int{math.MinInt, 1, 2, 3, math.MaxInt}) || s.Len() != 5 {
 		t.Errorf("%v, %d", got, s.Len())
 	}
@@ -29,13 +31,13 @@ func TestOf(t *testing.T) {
 	if s.Has(9) || !s.Has(3) {
 		t.Error("what was handed in was kept")
 	}
-	if empty := Of[string](); empty == nil || empty.Len() != 0 || len(empty.List()) != 0 || len(told(t, empty.All())) != 0 {
+	if empty := set.Of[string](); empty == nil || empty.Len() != 0 || len(empty.List()) != 0 || len(told(t, empty.All())) != 0 {
 		t.Error("of nothing")
 	}
 }
 
 func TestAddAndRemove(t *testing.T) {
-	s := Of("b")
+	s := set.Of("b")
 	if n := s.Add("c", "a", "b", "c"); n != 2 || s.Len() != 3 {
 		t.Errorf("%d came", n)
 	}
@@ -54,7 +56,7 @@ func TestAddAndRemove(t *testing.T) {
 }
 
 func TestListIsNew(t *testing.T) {
-	s := Of(1, 2, 3)
+	s := set.Of(1, 2, 3)
 	l := s.List()
 	l[0] = 9
 	_ = append(l[:1], 8)
@@ -64,8 +66,8 @@ func TestListIsNew(t *testing.T) {
 }
 
 func TestAllAsTheyWere(t *testing.T) {
-	s, other := Of(1, 2, 3), Of(5)
-	all, union := s.All(), Union(s, other)
+	s, other := set.Of(1, 2, 3), set.Of(5)
+	all, union := s.All(), set.Union(s, other)
 	s.Add(4, 0)
 	s.Remove(2)
 	other.Add(6)
@@ -88,16 +90,16 @@ func TestAllAsTheyWere(t *testing.T) {
 
 func TestUnion(t *testing.T) {
 	for i, c := range []struct {
-		l    []*Set[int]
+		l    []*set.Set[int]
 		want []int
 	}{
-		{nil, nil}, {[]*Set[int]{nil, nil}, nil}, {[]*Set[int]{Of(1, 3), Of(2, 3)}, []int{1, 2, 3}}, {[]*Set[int]{Of(5), nil, Of(1), Of(5), Of[int]()}, []int{1, 5}},
+		{nil, nil}, {[]*set.Set[int]{nil, nil}, nil}, {[]*set.Set[int]{set.Of(1, 3), set.Of(2, 3)}, []int{1, 2, 3}}, {[]*set.Set[int]{set.Of(5), nil, set.Of(1), set.Of(5), set.Of[int]()}, []int{1, 5}},
 	} {
-		if got := told(t, Union(c.l...)); !slices.Equal(got, c.want) {
+		if got := told(t, set.Union(c.l...)); !slices.Equal(got, c.want) {
 			t.Errorf("%d: %v", i, got)
 		}
 	}
-	for x := range Union(Of(1, 2), Of(3)) {
+	for x := range set.Union(set.Of(1, 2), set.Of(3)) {
 		if x != 1 {
 			t.Error("a loop may stop")
 		}
@@ -107,29 +109,29 @@ func TestUnion(t *testing.T) {
 
 func TestMeet(t *testing.T) {
 	for i, c := range []struct {
-		a, b *Set[int]
+		a, b *set.Set[int]
 		want bool
 	}{
-		{Of(1, 2), Of(2, 3), true}, {Of(1, 2), Of(3), false}, {Of[int](), Of(1), false}, {nil, Of(1), false}, {nil, nil, false}, {Of(9), Of(1, 2, 3, 9), true},
+		{set.Of(1, 2), set.Of(2, 3), true}, {set.Of(1, 2), set.Of(3), false}, {set.Of[int](), set.Of(1), false}, {nil, set.Of(1), false}, {nil, nil, false}, {set.Of(9), set.Of(1, 2, 3, 9), true},
 	} {
-		if Meet(c.a, c.b) != c.want || Meet(c.b, c.a) != c.want {
+		if set.Meet(c.a, c.b) != c.want || set.Meet(c.b, c.a) != c.want {
 			t.Errorf("%d isn't %v", i, c.want)
 		}
 	}
 }
 
 func TestWithout(t *testing.T) {
-	if got := told(t, Without(slices.Values([]int{3, 1, 3, 2}), 3)); !slices.Equal(got, []int{1, 2}) {
+	if got := told(t, set.Without(slices.Values([]int{3, 1, 3, 2}), 3)); !slices.Equal(got, []int{1, 2}) {
 		t.Errorf("%v", got)
 	}
-	if got := told(t, Without(slices.Values([]int{2, 2, 1}), 5)); !slices.Equal(got, []int{2, 2, 1}) {
+	if got := told(t, set.Without(slices.Values([]int{2, 2, 1}), 5)); !slices.Equal(got, []int{2, 2, 1}) {
 		t.Errorf("%v", got)
 	}
-	if got := told(t, Without(nil, 1)); len(got) != 0 {
+	if got := told(t, set.Without(nil, 1)); len(got) != 0 {
 		t.Errorf("%v", got)
 	}
 	n := 0
-	for range Without(Of(1, 2, 3).All(), 2) {
+	for range set.Without(set.Of(1, 2, 3).All(), 2) {
 		n++
 		break
 	}
@@ -139,7 +141,7 @@ func TestWithout(t *testing.T) {
 }
 
 func TestNilSet(t *testing.T) {
-	var s *Set[int]
+	var s *set.Set[int]
 	if s.Add(1) != 0 || s.Remove(1) != 0 || s.Has(1) || s.Len() != 0 || len(s.List()) != 0 || len(told(t, s.All())) != 0 {
 		t.Error("a nil set has something")
 	}
@@ -147,14 +149,14 @@ func TestNilSet(t *testing.T) {
 
 func TestFloats(t *testing.T) {
 	nan := math.NaN()
-	s := Of(1, nan, nan, math.Inf(-1))
+	s := set.Of(1, nan, nan, math.Inf(-1))
 	if s.Len() != 3 || !s.Has(nan) || s.Add(nan) != 0 || s.Remove(nan, nan) != 1 || s.Has(nan) {
 		t.Errorf("%v", s.List())
 	}
 }
 
 func TestManyThings(t *testing.T) {
-	s := Of[int]()
+	s := set.Of[int]()
 	has := map[int]bool{}
 	x := 1
 	for range 5000 {

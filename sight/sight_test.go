@@ -1,4 +1,4 @@
-package sight
+package sight_test
 
 import (
 	"iter"
@@ -10,6 +10,7 @@ import (
 	"rollcall/config"
 	"rollcall/core"
 	"rollcall/message"
+	"rollcall/sight"
 )
 
 // world is a core, and what is asked of it by a test.
@@ -63,7 +64,7 @@ func (w world) caps(id, caps int) {
 func (w world) say(id int, line string) {
 	w.t.Helper()
 	m, e := message.Parse(line)
-	if e != api.OK || !Do(w.Core, id, m) {
+	if e != api.OK || !sight.Do(w.Core, id, m) {
 		w.t.Errorf("%d says %q: %d", id, line, e)
 	}
 }
@@ -108,12 +109,12 @@ func raise(p *api.Person) { p.Oper = true }
 
 func TestKnows(t *testing.T) {
 	for _, command := range strings.Fields("ISON USERHOST WHOIS WHO WHOWAS MONITOR WATCH") {
-		if !Knows(command) || Knows(strings.ToLower(command)) {
+		if !sight.Knows(command) || sight.Knows(strings.ToLower(command)) {
 			t.Error(command)
 		}
 	}
 	for _, command := range []string{"", "NICK", "JOIN", "001", "WHO "} {
-		if Knows(command) {
+		if sight.Knows(command) {
 			t.Error(command)
 		}
 	}
@@ -121,7 +122,7 @@ func TestKnows(t *testing.T) {
 
 func TestDo(t *testing.T) {
 	w := made(t, nil).join("ann")
-	if Do(nil, 0, api.Msg{Command: "WHO"}) || Do(w.Core, 5, api.Msg{Command: "WHO"}) || Do(w.Core, 0, api.Msg{Command: "PING"}) || Do(w.Core, 0, api.Msg{Command: "who"}) || Do(w.Core, 0, api.Msg{}) {
+	if sight.Do(nil, 0, api.Msg{Command: "WHO"}) || sight.Do(w.Core, 5, api.Msg{Command: "WHO"}) || sight.Do(w.Core, 0, api.Msg{Command: "PING"}) || sight.Do(w.Core, 0, api.Msg{Command: "who"}) || sight.Do(w.Core, 0, api.Msg{}) {
 		t.Error("nothing can be done")
 	}
 	w.expect(0)
@@ -185,7 +186,7 @@ func TestWhois(t *testing.T) {
 // channels are the words for somebody's rooms.
 func (w world) channels(id, of int) string {
 	w.t.Helper()
-	seq := Channels(w.Core, id, of)
+	seq := sight.Channels(w.Core, id, of)
 	if seq == nil {
 		w.t.Fatal("it is nil")
 	}
@@ -223,7 +224,7 @@ func TestChannels(t *testing.T) {
 		t.Error("of nobody")
 	}
 	var seqs []iter.Seq[string]
-	seqs = append(seqs, Channels(nil, 0, 1), Channels(w.Core, 1, 1))
+	seqs = append(seqs, sight.Channels(nil, 0, 1), sight.Channels(w.Core, 1, 1))
 	w.Rooms().Leave(1)
 	if got := slices.Collect(seqs[1]); len(slices.Collect(seqs[0])) != 0 || len(got) != 3 {
 		t.Errorf("as they were: %q", got)

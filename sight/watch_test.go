@@ -1,4 +1,4 @@
-package sight
+package sight_test
 
 import (
 	"testing"

@@ -1,4 +1,4 @@
-package sign
+package sign_test
 
 import (
 	"slices"
@@ -7,6 +7,7 @@ import (
 
 	"rollcall/api"
 	"rollcall/config"
+	"rollcall/sign"
 )
 
 const every = "away-notify echo-message multi-prefix"
@@ -37,7 +38,7 @@ func TestCap(t *testing.T) {
 		{api.Sign{Talking: true}, []string{""}, api.Sign{Talking: true}, ":irc.x 410 * * :Invalid CAP command"}, {ann, []string{"L\u017f"}, ann, ":irc.x 410 ann L\u017f :Invalid CAP command"},
 		{ann, []string{"acK", "LS"}, ann, ":irc.x 410 ann acK :Invalid CAP command"},
 	} {
-		after, lines := Cap("irc.x", c.before, c.params)
+		after, lines := sign.Cap("irc.x", c.before, c.params)
 		if after != c.after || strings.Join(lines, "\n") != c.line || (c.line == "") != (len(lines) == 0) {
 			t.Errorf("%d: %v, %q, not %v, %q", i, after, lines, c.after, c.line)
 		}
@@ -61,7 +62,7 @@ func TestPass(t *testing.T) {
 		{api.Sign{Pass: "x"}, nil, api.Sign{Pass: "x"}, ":irc.x 461 * PASS :Not enough parameters"}, {api.Sign{Done: true, Nick: "n"}, nil, api.Sign{Done: true, Nick: "n"}, ":irc.x 462 n :You may not reregister"},
 		{api.Sign{Done: true, Nick: "n"}, []string{"y"}, api.Sign{Done: true, Nick: "n"}, ":irc.x 462 n :You may not reregister"},
 	} {
-		if after, lines := Pass("irc.x", c.before, c.params); after != c.after || strings.Join(lines, "\n") != c.line || (c.line == "") != (len(lines) == 0) {
+		if after, lines := sign.Pass("irc.x", c.before, c.params); after != c.after || strings.Join(lines, "\n") != c.line || (c.line == "") != (len(lines) == 0) {
 			t.Errorf("%d: %v, %q", i, after, lines)
 		}
 	}
@@ -81,7 +82,7 @@ func TestUser(t *testing.T) {
 		{api.Sign{}, []string{"a!", "0", "*"}, api.Sign{}, ":irc.x 461 * USER :Not enough parameters"}, {api.Sign{Nick: "n"}, []string{"elevenbytes", "0", "*", "r"}, api.Sign{Nick: "n"}, ":irc.x 468 n :Invalid username"},
 		{api.Sign{Nick: "n", User: "x", Done: true}, []string{"u", "0", "*", "r"}, api.Sign{Nick: "n", User: "x", Done: true}, ":irc.x 462 n :You may not reregister"}, {api.Sign{Done: true}, nil, api.Sign{Done: true}, ":irc.x 462 * :You may not reregister"},
 	} {
-		if after, lines := User("irc.x", c.before, c.params); after != c.after || strings.Join(lines, "\n") != c.line || (c.line == "") != (len(lines) == 0) {
+		if after, lines := sign.User("irc.x", c.before, c.params); after != c.after || strings.Join(lines, "\n") != c.line || (c.line == "") != (len(lines) == 0) {
 			t.Errorf("%d: %v, %q", i, after, lines)
 		}
 	}
@@ -95,7 +96,7 @@ func TestReady(t *testing.T) {
 		{api.Sign{}, false}, {api.Sign{Nick: "n"}, false}, {api.Sign{User: "u"}, false}, {api.Sign{Nick: "n", User: "u"}, true},
 		{api.Sign{Nick: "n", User: "u", Talking: true}, false}, {api.Sign{Nick: "n", User: "u", Done: true}, false},
 	} {
-		if got := Ready(c.s); got != c.want {
+		if got := sign.Ready(c.s); got != c.want {
 			t.Errorf("%d: %v", i, got)
 		}
 	}
@@ -110,13 +111,13 @@ func TestWelcome(t *testing.T) {
 		":irc.x 005 ann :" + strings.Join(slices.Collect(config.Support(c)), " "),
 		":irc.x 422 ann :MOTD File is missing",
 	}
-	if got := Welcome(c, api.Sign{Nick: "ann", User: "u", Real: "r"}, "h"); !slices.Equal(got, want) {
+	if got := sign.Welcome(c, api.Sign{Nick: "ann", User: "u", Real: "r"}, "h"); !slices.Equal(got, want) {
 		t.Errorf("%q, not %q", got, want)
 	}
-	if got := Welcome(api.Config{}, api.Sign{}, ""); len(got) != 4 || got[0] != "001 * :Welcome !@" {
+	if got := sign.Welcome(api.Config{}, api.Sign{}, ""); len(got) != 4 || got[0] != "001 * :Welcome !@" {
 		t.Errorf("of nothing: %q", got)
 	}
-	if got := Welcome(api.Config{Name: strings.Repeat("x", 400)}, api.Sign{Nick: "n"}, ""); len(got) < 5 {
+	if got := sign.Welcome(api.Config{Name: strings.Repeat("x", 400)}, api.Sign{Nick: "n"}, ""); len(got) < 5 {
 		t.Errorf("of a long name: %d lines", len(got))
 	}
 }

@@ -1,4 +1,4 @@
-package tags
+package tags_test
 
 import (
 	"slices"
@@ -7,6 +7,7 @@ import (
 	"testing"
 
 	"rollcall/api"
+	"rollcall/tags"
 )
 
 // list are n tags of different names.
@@ -31,7 +32,7 @@ func TestEscape(t *testing.T) {
 	for v, want := range map[string]string{
 		"": "", "abc": "abc", ";": `\:`, " ": `\s`, `\`: `\\`, "\r": `\r`, "\n": `\n`, "a; b\\s": `a\:\sb\\s`, "\x00\xff=:": "\x00\xff=:",
 	} {
-		if got := Escape(v); got != want {
+		if got := tags.Escape(v); got != want {
 			t.Errorf("Escape(%q) is %q, not %q", v, got, want)
 		}
 	}
@@ -42,14 +43,14 @@ func TestUnescape(t *testing.T) {
 		"": "", "abc": "abc", `\:`: ";", `\s`: " ", `\\`: `\`, `\r`: "\r", `\n`: "\n", `\`: "", `a\`: "a", `\\\`: `\`, `\b\x\"`: `bx"`,
 		`\\s`: `\s`, `\S\R`: "SR", `\;`: ";", "\\ ": " ", `a\\:b`: `a\:b`, "\\\xff": "\xff",
 	} {
-		if got := Unescape(s); got != want {
+		if got := tags.Unescape(s); got != want {
 			t.Errorf("Unescape(%q) is %q, not %q", s, got, want)
 		}
 	}
 	for a := range 256 {
 		for b := range 256 {
 			v := string([]byte{byte(a), byte(b), '\\', byte(a)})
-			if got := Unescape(Escape(v)); got != v {
+			if got := tags.Unescape(tags.Escape(v)); got != v {
 				t.Fatalf("%q came back as %q", v, got)
 			}
 		}
@@ -67,11 +68,11 @@ func TestParse(t *testing.T) {
 		"a=\xff,:@!":  {{Name: "a", Value: "\xff,:@!"}},
 		row(16):       list(16),
 	} {
-		if got, e := Parse(s); e != api.OK || !slices.Equal(got, want) {
+		if got, e := tags.Parse(s); e != api.OK || !slices.Equal(got, want) {
 			t.Errorf("Parse(%q) is %v, %d", s, got, e)
 		}
 	}
-	if got, e := Parse(row(16) + ";t3=x"); e != api.OK || len(got) != 16 || got[3].Value != "x" {
+	if got, e := tags.Parse(row(16) + ";t3=x"); e != api.OK || len(got) != 16 || got[3].Value != "x" {
 		t.Errorf("17 tags of 16 names: %v, %d", got, e)
 	}
 }
@@ -83,7 +84,7 @@ func TestParseErrors(t *testing.T) {
 		"a=b ;": api.ErrByte, ";a_": api.ErrEmpty, "a_;": api.ErrByte, "@a": api.ErrByte,
 		row(17): api.ErrFull, row(17) + ";": api.ErrEmpty, row(17) + ";_": api.ErrByte,
 	} {
-		if got, e := Parse(s); e != want || len(got) != 0 {
+		if got, e := tags.Parse(s); e != want || len(got) != 0 {
 			t.Errorf("Parse(%q) is %v, %d, not %d", s, got, e, want)
 		}
 	}
@@ -95,7 +96,7 @@ func TestParseErrors(t *testing.T) {
 		} else if name == ";" || name == "=" {
 			want = api.ErrEmpty
 		}
-		if _, e := Parse(name); e != want {
+		if _, e := tags.Parse(name); e != want {
 			t.Errorf("Parse(%q): %d, not %d", name, e, want)
 		}
 	}
@@ -113,10 +114,10 @@ func TestCheck(t *testing.T) {
 		{[]api.Tag{{Name: "a"}, {Name: "a"}, {Name: ""}}, api.ErrThere}, {list(16), api.OK}, {list(17), api.ErrFull},
 		{append(list(17), api.Tag{Name: "t0"}), api.ErrThere}, {[]api.Tag{{Name: " "}, {Name: ""}}, api.ErrByte},
 	} {
-		if got := Check(c.l); got != c.want {
+		if got := tags.Check(c.l); got != c.want {
 			t.Errorf("%d: %d, not %d", i, got, c.want)
 		}
-		if text := Text(c.l); (text == "") != (c.want != api.OK) {
+		if text := tags.Text(c.l); (text == "") != (c.want != api.OK) {
 			t.Errorf("%d: the text is %q", i, text)
 		}
 	}
@@ -129,13 +130,13 @@ func TestText(t *testing.T) {
 		`a=\\=`:     {{Name: "a", Value: `\=`}},
 		row(16):     list(16),
 	} {
-		if got := Text(l); got != want {
+		if got := tags.Text(l); got != want {
 			t.Errorf("Text(%v) is %q, not %q", l, got, want)
 		}
 	}
 	for b := range 255 {
 		l := []api.Tag{{Name: "a", Value: string([]byte{byte(b + 1), 's'})}, {Name: "b", Value: string([]byte{'\\', byte(b + 1)})}}
-		if got, e := Parse(Text(l)); e != api.OK || !slices.Equal(got, l) {
+		if got, e := tags.Parse(tags.Text(l)); e != api.OK || !slices.Equal(got, l) {
 			t.Errorf("%v came back as %v, %d", l, got, e)
 		}
 	}
@@ -143,18 +144,18 @@ func TestText(t *testing.T) {
 
 func TestGet(t *testing.T) {
 	l := []api.Tag{{Name: "a", Value: "1"}, {Name: "b"}, {Name: "a", Value: "2"}}
-	if v, ok := Get(l, "a"); v != "1" || !ok {
+	if v, ok := tags.Get(l, "a"); v != "1" || !ok {
 		t.Errorf("a: %q, %v", v, ok)
 	}
-	if v, ok := Get(l, "b"); v != "" || !ok {
+	if v, ok := tags.Get(l, "b"); v != "" || !ok {
 		t.Errorf("b: %q, %v", v, ok)
 	}
 	for _, name := range []string{"A", "", "c"} {
-		if v, ok := Get(l, name); v != "" || ok {
+		if v, ok := tags.Get(l, name); v != "" || ok {
 			t.Errorf("%q: %q, %v", name, v, ok)
 		}
 	}
-	if _, ok := Get(nil, ""); ok {
+	if _, ok := tags.Get(nil, ""); ok {
 		t.Error("of no tags")
 	}
 }

@@ -1,4 +1,4 @@
-package talk
+package talk_test
 
 import (
 	"iter"
@@ -10,6 +10,7 @@ import (
 	"rollcall/config"
 	"rollcall/core"
 	"rollcall/message"
+	"rollcall/talk"
 )
 
 // world is a core, and what is asked of it by a test.
@@ -63,7 +64,7 @@ func (w world) caps(id, caps int) {
 func (w world) say(id int, line string) {
 	w.t.Helper()
 	m, e := message.Parse(line)
-	if e != api.OK || !Do(w.Core, id, m) {
+	if e != api.OK || !talk.Do(w.Core, id, m) {
 		w.t.Errorf("%d says %q: %d", id, line, e)
 	}
 }
@@ -84,12 +85,12 @@ func (w world) expect(id int, want ...string) {
 
 func TestKnows(t *testing.T) {
 	for _, command := range strings.Fields("CAP PASS NICK USER PING PONG QUIT PRIVMSG NOTICE AWAY OPER KILL") {
-		if !Knows(command) || Knows(strings.ToLower(command)) {
+		if !talk.Knows(command) || talk.Knows(strings.ToLower(command)) {
 			t.Error(command)
 		}
 	}
 	for _, command := range []string{"", "JOIN", "WHO", "001", "PING "} {
-		if Knows(command) {
+		if talk.Knows(command) {
 			t.Error(command)
 		}
 	}
@@ -97,7 +98,7 @@ func TestKnows(t *testing.T) {
 
 func TestDo(t *testing.T) {
 	w := made(t, nil).join("ann")
-	if Do(nil, 0, api.Msg{Command: "PING"}) || Do(w.Core, 5, api.Msg{Command: "PING"}) || Do(w.Core, 0, api.Msg{Command: "JOIN"}) || Do(w.Core, 0, api.Msg{Command: "ping"}) || Do(w.Core, 0, api.Msg{}) {
+	if talk.Do(nil, 0, api.Msg{Command: "PING"}) || talk.Do(w.Core, 5, api.Msg{Command: "PING"}) || talk.Do(w.Core, 0, api.Msg{Command: "JOIN"}) || talk.Do(w.Core, 0, api.Msg{Command: "ping"}) || talk.Do(w.Core, 0, api.Msg{}) {
 		t.Error("nothing can be done")
 	}
 	w.expect(0)
@@ -120,11 +121,11 @@ func TestPeers(t *testing.T) {
 	w.caps(3, api.CapEcho|api.CapMulti)
 	w.caps(0, 7)
 	for capability, want := range map[int][]int{0: {1, 3}, api.CapAway: {1}, api.CapEcho: {3}, api.CapMulti: {3}, 3: nil, 8: nil, -1: nil} {
-		if got := slices.Collect(Peers(w.Core, 0, capability)); !slices.Equal(got, want) {
+		if got := slices.Collect(talk.Peers(w.Core, 0, capability)); !slices.Equal(got, want) {
 			t.Errorf("Peers of %d: %v, not %v", capability, got, want)
 		}
 	}
-	for _, seq := range []iter.Seq[int]{Peers(w.Core, 2, 0), Peers(w.Core, 9, 0), Peers(nil, 0, 0)} {
+	for _, seq := range []iter.Seq[int]{talk.Peers(w.Core, 2, 0), talk.Peers(w.Core, 9, 0), talk.Peers(nil, 0, 0)} {
 		if seq == nil {
 			t.Fatal("it is nil")
 		}
@@ -132,7 +133,7 @@ func TestPeers(t *testing.T) {
 			t.Errorf("%v", got)
 		}
 	}
-	seq := Peers(w.Core, 0, 0)
+	seq := talk.Peers(w.Core, 0, 0)
 	w.Rooms().Leave(3)
 	if got := slices.Collect(seq); !slices.Equal(got, []int{1, 3}) {
 		t.Errorf("as they were: %v", got)

@@ -1,4 +1,4 @@
-package tell
+package tell_test
 
 import (
 	"strings"
@@ -7,13 +7,14 @@ import (
 	"rollcall/api"
 	"rollcall/config"
 	"rollcall/core"
+	"rollcall/tell"
 )
 
 func TestWords(t *testing.T) {
-	if got := Words("a\r\nb\x00 c"); got != "ab c" {
+	if got := tell.Words("a\r\nb\x00 c"); got != "ab c" {
 		t.Errorf("%q", got)
 	}
-	if got := Words(strings.Repeat("x", 250)); len(got) != 200 {
+	if got := tell.Words(strings.Repeat("x", 250)); len(got) != 200 {
 		t.Errorf("%d bytes", len(got))
 	}
 }
@@ -21,22 +22,22 @@ func TestWords(t *testing.T) {
 func TestTellingAndNaming(t *testing.T) {
 	c, _ := core.New(config.Usual())
 	c.Connect(1, "h")
-	Told(c, 1, 451)
-	Numeric(c, 1, 5, "x")
+	tell.Told(c, 1, 451)
+	tell.Numeric(c, 1, 5, "x")
 	c.Claim(1, "ann")
-	if _, named := Named(c, "ann"); named {
+	if _, named := tell.Named(c, "ann"); named {
 		t.Error("it isn't registered")
 	}
 	c.SetSign(1, api.Sign{User: "u"})
 	c.Register(1)
-	Told(c, 1, 401, "bob")
+	tell.Told(c, 1, 401, "bob")
 	if got := string(c.Drain(1, 999)); got != ":irc.example 451 * :You have not registered\r\n:irc.example 005 * x\r\n:irc.example 401 ann bob :No such nick\r\n" {
 		t.Errorf("%q", got)
 	}
-	if p, named := Named(c, "ANN"); !named || p.Id != 1 {
+	if p, named := tell.Named(c, "ANN"); !named || p.Id != 1 {
 		t.Errorf("%v, %v", p, named)
 	}
-	if p, named := Named(c, "bob"); named || p != (api.Person{}) {
+	if p, named := tell.Named(c, "bob"); named || p != (api.Person{}) {
 		t.Errorf("%v, %v", p, named)
 	}
 }
@@ -50,15 +51,15 @@ func TestMaySee(t *testing.T) {
 		c.Register(id)
 	}
 	r, _ := c.Rooms().Join(0, "#a")
-	if !MaySee(c, 0, r) || !MaySee(c, 1, r) {
+	if !tell.MaySee(c, 0, r) || !tell.MaySee(c, 1, r) {
 		t.Error("it isn't secret")
 	}
 	r.Change(api.Change{On: true, Letter: 's'}, 0)
-	if !MaySee(c, 0, r) || MaySee(c, 1, r) {
+	if !tell.MaySee(c, 0, r) || tell.MaySee(c, 1, r) {
 		t.Error("it is secret")
 	}
 	c.SetPerson(api.Person{Id: 1, Oper: true})
-	if !MaySee(c, 1, r) {
+	if !tell.MaySee(c, 1, r) {
 		t.Error("an operator sees all")
 	}
 }

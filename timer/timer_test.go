@@ -1,15 +1,17 @@
-package timer
+package timer_test
 
 import (
 	"slices"
 	"strconv"
 	"testing"
+
+	"rollcall/timer"
 )
 
 const most = 1<<63 - 1
 
 // told is what is due, as a text.
-func told[K int | string](t *Table[K], now int) string {
+func told[K int | string](t *timer.Table[K], now int) string {
 	out := ""
 	for k, at := range t.Due(now) {
 		switch key := any(k).(type) {
@@ -24,7 +26,7 @@ func told[K int | string](t *Table[K], now int) string {
 }
 
 func TestSetStopAt(t *testing.T) {
-	x := New[string]()
+	x := timer.New[string]()
 	if _, ok := x.At("a"); ok || x.Len() != 0 || x.Stop("a") {
 		t.Error("it has keys")
 	}
@@ -46,7 +48,7 @@ func TestSetStopAt(t *testing.T) {
 }
 
 func TestExample(t *testing.T) {
-	x := New[string]()
+	x := timer.New[string]()
 	x.Set("b", 5)
 	x.Set("a", 5)
 	x.Set("c", 3)
@@ -69,7 +71,7 @@ func TestExample(t *testing.T) {
 }
 
 func TestEdges(t *testing.T) {
-	x := New[int]()
+	x := timer.New[int]()
 	if k, at, ok := x.Next(); k != 0 || at != 0 || ok {
 		t.Error("the first of none")
 	}
@@ -85,7 +87,7 @@ func TestEdges(t *testing.T) {
 }
 
 func TestAsTheyWere(t *testing.T) {
-	x := New[int]()
+	x := timer.New[int]()
 	for i := range 10 {
 		x.Set(i, 10-i)
 	}
@@ -115,7 +117,7 @@ func TestAsTheyWere(t *testing.T) {
 }
 
 func TestOrderOfMany(t *testing.T) {
-	x := New[int]()
+	x := timer.New[int]()
 	for i := range 1000 {
 		x.Set(i*7919%1000, i%13)
 	}
@@ -136,7 +138,7 @@ func TestOrderOfMany(t *testing.T) {
 }
 
 func TestNilTable(t *testing.T) {
-	var x *Table[string]
+	var x *timer.Table[string]
 	x.Set("a", 1)
 	_, there := x.At("a")
 	k, at, ok := x.Next()

@@ -1,10 +1,11 @@
-package valid
+package valid_test
 
 import (
 	"strings"
 	"testing"
 
 	"rollcall/fold"
+	"rollcall/valid"
 )
 
 const letters = "ABCDEFGHIJKLMNOPQRSTUVWXYZabcdefghijklmnopqrstuvwxyz"
@@ -44,10 +45,10 @@ type rule struct {
 func rules() []rule {
 	seen := visible()
 	return []rule{
-		{"Nick", Nick, letters + signs, letters + digits + signs + "-", "a", 1, 16},
-		{"User", User, but(seen, "!@*?:"), but(seen, "!@*?:"), "a", 1, 10},
-		{"Host", Host, letters + digits + ".-", letters + digits + ".-:", "a", 1, 63},
-		{"Key", Key, but(seen, ",:"), but(seen, ","), "a", 1, 23},
+		{"Nick", valid.Nick, letters + signs, letters + digits + signs + "-", "a", 1, 16},
+		{"User", valid.User, but(seen, "!@*?:"), but(seen, "!@*?:"), "a", 1, 10},
+		{"Host", valid.Host, letters + digits + ".-", letters + digits + ".-:", "a", 1, 63},
+		{"Key", valid.Key, but(seen, ",:"), but(seen, ","), "a", 1, 23},
 	}
 }
 
@@ -80,21 +81,21 @@ func TestLengths(t *testing.T) {
 
 func TestChannel(t *testing.T) {
 	for n := range 60 {
-		if got, want := Channel("#"+strings.Repeat("a", n)), n >= 1 && n <= 49; got != want {
+		if got, want := valid.Channel("#"+strings.Repeat("a", n)), n >= 1 && n <= 49; got != want {
 			t.Errorf("of %d bytes: %v", n+1, got)
 		}
 	}
 	for b := range 256 {
 		s := string([]byte{byte(b)})
 		want := !strings.Contains("\x00\x07\x0a\x0d ,:", s)
-		if got := Channel("#" + s); got != want {
+		if got := valid.Channel("#" + s); got != want {
 			t.Errorf("Channel(%q) is %v", "#"+s, got)
 		}
-		if got := Channel(s + "a"); got != (s == "#") {
+		if got := valid.Channel(s + "a"); got != (s == "#") {
 			t.Errorf("Channel(%q) is %v", s+"a", got)
 		}
 	}
-	if Channel("") || Channel("#") || Channel("&a") || !Channel("##") || !Channel("#\xff!") {
+	if valid.Channel("") || valid.Channel("#") || valid.Channel("&a") || !valid.Channel("##") || !valid.Channel("#\xff!") {
 		t.Error("edges")
 	}
 }
@@ -105,17 +106,17 @@ func TestServer(t *testing.T) {
 		"a.b:1": false, ":a.b": false, "a.b_": false, "a b.c": false,
 		"a." + strings.Repeat("b", 61): true, "a." + strings.Repeat("b", 62): false,
 	} {
-		if got := Server(s); got != want {
+		if got := valid.Server(s); got != want {
 			t.Errorf("Server(%q) is %v", s, got)
 		}
 	}
 }
 
 func TestExamples(t *testing.T) {
-	if !Nick("a-b") || Nick("-a") || Nick("1a") || Nick("~a") || Nick("") || !Channel("#a") || Channel("#") {
+	if !valid.Nick("a-b") || valid.Nick("-a") || valid.Nick("1a") || valid.Nick("~a") || valid.Nick("") || !valid.Channel("#a") || valid.Channel("#") {
 		t.Error("examples")
 	}
-	if !Host("::1"[2:]) || Host("::1") || !Host("a::1") || Host("a_b") {
+	if !valid.Host("::1"[2:]) || valid.Host("::1") || !valid.Host("a::1") || valid.Host("a_b") {
 		t.Error("hosts")
 	}
 }
@@ -124,11 +125,11 @@ func TestText(t *testing.T) {
 	for b := range 256 {
 		s := string([]byte{byte(b)})
 		want := s != "\x00" && s != "\r" && s != "\n"
-		if Text(s) != want || Text("a"+s+"b") != want {
+		if valid.Text(s) != want || valid.Text("a"+s+"b") != want {
 			t.Errorf("Text(%q) isn't %v", s, want)
 		}
 	}
-	if !Text("") {
+	if !valid.Text("") {
 		t.Error("the empty text is a line's")
 	}
 }
@@ -142,8 +143,8 @@ func TestClean(t *testing.T) {
 		{"", 5, ""}, {"abc", 5, "abc"}, {"abc", 3, "abc"}, {"abc", 2, "ab"}, {"abc", 0, ""}, {"abc", -1, ""}, {"abc", -1 << 63, ""},
 		{"a\x00b\rc\nd", 9, "abcd"}, {"\r\n\x00abc", 2, "ab"}, {"\x07\xff b", 1<<63 - 1, "\x07\xff b"}, {"a\n", 1, "a"},
 	} {
-		got := Clean(c.s, c.most)
-		if got != c.want || !Text(got) {
+		got := valid.Clean(c.s, c.most)
+		if got != c.want || !valid.Text(got) {
 			t.Errorf("Clean(%q, %d) is %q", c.s, c.most, got)
 		}
 	}
@@ -152,11 +153,11 @@ func TestClean(t *testing.T) {
 func TestAlikeToANickname(t *testing.T) {
 	for b := range 256 {
 		s := "a" + string([]byte{byte(b)})
-		if b != '~' && Nick(s) != Nick(fold.Text(s)) {
+		if b != '~' && valid.Nick(s) != valid.Nick(fold.Text(s)) {
 			t.Errorf("%q and its folded text aren't both nicknames", s)
 		}
 	}
-	if Nick("a~") || !Nick("a^") {
+	if valid.Nick("a~") || !valid.Nick("a^") {
 		t.Error("~ is in no nickname")
 	}
 }

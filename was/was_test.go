@@ -1,4 +1,4 @@
-package was
+package was_test
 
 import (
 	"iter"
@@ -6,12 +6,13 @@ import (
 	"testing"
 
 	"rollcall/api"
+	"rollcall/was"
 )
 
 // made is a past of at most so many, or the test ends.
-func made(t *testing.T, most int) *Past[int] {
+func made(t *testing.T, most int) *was.Past[int] {
 	t.Helper()
-	p, e := New[int](most)
+	p, e := was.New[int](most)
 	if p == nil || e != api.OK {
 		t.Fatalf("New(%d): %d", most, e)
 	}
@@ -33,7 +34,7 @@ func tell(t *testing.T, seq iter.Seq2[string, int]) string {
 
 func TestNew(t *testing.T) {
 	for _, most := range []int{-1, -1 << 63, 100001, 1<<63 - 1} {
-		if p, e := New[int](most); p != nil || e != api.ErrRange {
+		if p, e := was.New[int](most); p != nil || e != api.ErrRange {
 			t.Errorf("New(%d): %v, %d", most, p, e)
 		}
 	}
@@ -123,7 +124,7 @@ func TestAsItWas(t *testing.T) {
 }
 
 func TestNilPast(t *testing.T) {
-	var p *Past[int]
+	var p *was.Past[int]
 	p.Put("a", 1)
 	if p.Len() != 0 || tell(t, p.All()) != "" || tell(t, p.Find("a")) != "" {
 		t.Error("a nil past has something")

@@ -1,4 +1,4 @@
-package wish
+package wish_test
 
 import (
 	"slices"
@@ -6,15 +6,16 @@ import (
 	"testing"
 
 	"rollcall/api"
+	"rollcall/wish"
 )
 
 // list is a client's list.
-func list(l *Lists, id int) string {
+func list(l *wish.Lists, id int) string {
 	return strings.Join(slices.Collect(l.Of(id)), " ")
 }
 
 func TestAdd(t *testing.T) {
-	l := New(2)
+	l := wish.New(2)
 	for i, c := range []struct {
 		id   int
 		name string
@@ -39,13 +40,13 @@ func TestAdd(t *testing.T) {
 	if got := slices.Collect(l.By("cid")); len(got) != 0 {
 		t.Errorf("%v", got)
 	}
-	if e := New(0).Add(1, "a"); e != api.ErrFull {
+	if e := wish.New(0).Add(1, "a"); e != api.ErrFull {
 		t.Errorf("without room: %d", e)
 	}
 }
 
 func TestRemoveAndClear(t *testing.T) {
-	l := New(9)
+	l := wish.New(9)
 	for _, name := range []string{"bob", "Ann~", "cid", "[z"} {
 		l.Add(1, name)
 		l.Add(2, name)
@@ -63,13 +64,10 @@ func TestRemoveAndClear(t *testing.T) {
 	if n := l.Clear(1); n != 4 || l.Count(1) != 0 || l.Clear(1) != 0 || l.Clear(9) != 0 || list(l, 1) != "" || l.Count(2) != 4 {
 		t.Errorf("Clear: %d", n)
 	}
-	if len(l.spelled) != 4 {
-		t.Error("more is kept than is there")
-	}
 }
 
 func TestAsTheyWere(t *testing.T) {
-	l := New(9)
+	l := wish.New(9)
 	l.Add(1, "a")
 	l.Add(1, "b")
 	l.Add(2, "b")
@@ -95,7 +93,7 @@ func TestMonitor(t *testing.T) {
 		{[]string{"+", "a b,c,sixteenbytesxxxx,seventeenbytesxxx", "d"}, '+', []string{"c", "sixteenbytesxxxx"}}, {[]string{"+", " a,b"}, '+', []string{"b"}},
 		{[]string{"C", "a"}, 'C', nil}, {[]string{"c"}, 'C', nil}, {[]string{"L"}, 'L', nil}, {[]string{"l", "a,b"}, 'L', nil}, {[]string{"S"}, 'S', nil}, {[]string{"s"}, 'S', nil},
 	} {
-		if op, names := Monitor(c.params); op != c.op || !slices.Equal(names, c.names) {
+		if op, names := wish.Monitor(c.params); op != c.op || !slices.Equal(names, c.names) {
 			t.Errorf("%d: %q, %q", i, op, names)
 		}
 	}
@@ -110,14 +108,14 @@ func TestWatch(t *testing.T) {
 		{[]string{"+ann", "-bob", "c", "x"}, []api.Wish{{Op: '+', Name: "ann"}, {Op: '-', Name: "bob"}, {Op: 'C'}}},
 		{[]string{"s", "L", "l", "S", "C", "+C", "+C"}, []api.Wish{{Op: 'S'}, {Op: 'L'}, {Op: 'L'}, {Op: 'S'}, {Op: 'C'}, {Op: '+', Name: "C"}, {Op: '+', Name: "C"}}},
 	} {
-		if got := Watch(c.params); !slices.Equal(got, c.want) {
+		if got := wish.Watch(c.params); !slices.Equal(got, c.want) {
 			t.Errorf("%d: %v, not %v", i, got, c.want)
 		}
 	}
 }
 
 func TestNilLists(t *testing.T) {
-	var l *Lists
+	var l *wish.Lists
 	if e := l.Add(1, "a"); e != api.ErrArg {
 		t.Errorf("Add: %d", e)
 	}
@@ -130,7 +128,7 @@ func TestNilLists(t *testing.T) {
 	if list(l, 1) != "" || len(slices.Collect(l.By("a"))) != 0 {
 		t.Error("something is told")
 	}
-	odd := New(-1)
+	odd := wish.New(-1)
 	odd.Add(1, "a")
 	odd.Remove(1, "a")
 	if odd.Clear(1) != 0 || list(odd, 1) != "" {
