@@ -244,9 +244,13 @@ func TestWatchers(t *testing.T) {
 	expect(t, c, 2)
 	expect(t, c, 5, ":irc.x 730 ann ann!u@h")
 	c.Tick()
-	c.Claim(5, "Ann")
+	if !c.Claim(5, "Ann") {
+		t.Error("it is alike")
+	}
 	expect(t, c, 0)
-	c.Claim(5, "bob")
+	if !c.Claim(5, "bob") {
+		t.Error("it is free")
+	}
 	expect(t, c, 1, ":irc.x 731 cid Ann", ":irc.x 601 cid Ann u h 2 :logged offline")
 	expect(t, c, 2, ":irc.x 600 dan bob u h 1 :logged online")
 	expect(t, c, 5, ":irc.x 731 bob Ann")
@@ -490,8 +494,8 @@ func TestNilCore(t *testing.T) {
 	c.Heard(1)
 	c.Tick()
 	_, person := c.Person(1)
-	_, holder := c.Holder("a")
-	if c.Connect(1, "h") || c.Live(1) || c.There(1) || person || holder || c.Claim(1, "a") || c.Register(1) || c.Settle() != 0 || c.Waits(1) != 0 {
+	id, holder := c.Holder("a")
+	if id != 0 || c.Connect(1, "h") || c.Live(1) || c.There(1) || person || holder || c.Claim(1, "a") || c.Register(1) || c.Settle() != 0 || c.Waits(1) != 0 {
 		t.Error("a nil core does something")
 	}
 	if c.Config() != (api.Config{}) || c.Now() != 0 || c.Host(1) != "" || c.Sign(1) != (api.Sign{}) || len(c.Feed(1, []byte("a\n"))) != 0 || len(c.Drain(1, 5)) != 0 {

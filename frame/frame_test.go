@@ -64,6 +64,18 @@ func TestExample(t *testing.T) {
 	}
 }
 
+func TestOtherBytesEndNothing(t *testing.T) {
+	for b := range 256 {
+		if b == '\r' || b == '\n' {
+			continue
+		}
+		want := string([]byte{'a', byte(b), 'c'})
+		if got := frame.New().Feed([]byte(want + "\n")); !slices.Equal(got, []api.Line{{Text: want}}) {
+			t.Errorf("%q: %v", want, got)
+		}
+	}
+}
+
 func TestTooLong(t *testing.T) {
 	f := frame.New()
 	f.Feed([]byte(row(510)))

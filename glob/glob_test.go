@@ -62,7 +62,7 @@ func TestMatch(t *testing.T) {
 	}{
 		{"", "", true}, {"", "a", false}, {"*", "", true}, {"?", "", false}, {"?", "\xff", true}, {"[a]~", "{A}^", true},
 		{"a*b", "ab", true}, {"a*b", "axxb", true}, {"a*b", "axxbc", false}, {"*.de", "x.DE", true}, {"*a*b*c*", "xaybzc", true},
-		{"a?c", "abbc", false}, {"a", "*", false}, {"*\\?", "|x", true}, {"a**", "a", true}, {"*?", "", false},
+		{"a?c", "abbc", false}, {"a", "*", false}, {"*\\?", "|x", true}, {"a**", "a", true}, {"*?", "", false}, {"a~", "a", false}, {"a*~", "a", false},
 	} {
 		if got := glob.Match(c.mask, c.s); got != c.want {
 			t.Errorf("Match(%q, %q) is %v", c.mask, c.s, got)
@@ -75,7 +75,7 @@ func TestMatch(t *testing.T) {
 }
 
 func TestWildAndAny(t *testing.T) {
-	if glob.Wild("") || glob.Wild("abc!@") || !glob.Wild("a*") || !glob.Wild("?b") {
+	if glob.Wild("") || glob.Wild("abc!@~") || !glob.Wild("a*") || !glob.Wild("?b") {
 		t.Error("Wild")
 	}
 	if glob.Any("a") || glob.Any("a", "b", "c") || !glob.Any("a", "b", "A") || !glob.Any("a", "*") || glob.Any("") || !glob.Any("", "x", "") {

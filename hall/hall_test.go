@@ -200,6 +200,15 @@ func TestJoinOfSomebodyAway(t *testing.T) {
 	w.expect(3, ":dan!u@h JOIN #a", ":irc.x 332 dan #a :our topic", ":irc.x 353 dan = #a :@ann bob cid dan", ":irc.x 366 dan #a :End of NAMES list")
 }
 
+func TestJoinOfSomebodyHere(t *testing.T) {
+	w := made(t, nil).join("ann", "bob")
+	w.on("#a", 0)
+	w.caps(0, api.CapAway)
+	w.caps(1, api.CapAway)
+	w.say(1, "JOIN #a")
+	w.expect(0, ":bob!u@h JOIN #a")
+}
+
 func TestPart(t *testing.T) {
 	w := made(t, nil).join("ann", "bob")
 	w.on("#A", 0, 1)
@@ -366,6 +375,7 @@ func TestInvite(t *testing.T) {
 	w.expect(0, ":irc.x 341 ann Bob #A")
 	w.expect(1, ":ann!u@h INVITE Bob #A")
 	w.say(1, "JOIN #a")
+	w.expect(1, ":Bob!u@h JOIN #A", ":irc.x 353 Bob = #A :@ann Bob cid", ":irc.x 366 Bob #A :End of NAMES list")
 	w.modes("#a", off('i', ""))
 	w.quiet()
 	w.say(2, "INVITE dan #a")

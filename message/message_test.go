@@ -31,6 +31,8 @@ func TestParse(t *testing.T) {
 		"PING":                                msg("", "PING"),
 		"ping   x  ":                          msg("", "PING", "x"),
 		"pInG x :":                            msg("", "PING", "x", ""),
+		"az ~a  ~b":                           msg("", "AZ", "~a", "~b"),
+		"909 ~":                               msg("", "909", "~"),
 		"PING :":                              msg("", "PING", ""),
 		"PING ::x":                            msg("", "PING", ":x"),
 		"PING a:b :c :d ":                     msg("", "PING", "a:b", "c :d "),
@@ -64,7 +66,7 @@ func TestParseErrors(t *testing.T) {
 		":":                                    api.ErrEmpty, ": PING": api.ErrEmpty, "@a : PING": api.ErrEmpty,
 		"": api.ErrEnd, "@a": api.ErrEnd, "@a  ": api.ErrEnd, ":x": api.ErrEnd, ":x  ": api.ErrEnd, "@a :x": api.ErrEnd,
 		" PING": api.ErrForm, " ": api.ErrForm, " :x PING": api.ErrForm, "PING1": api.ErrForm, "01": api.ErrForm, "0001": api.ErrForm, "00a": api.ErrForm,
-		"P-NG": api.ErrForm, ":x :y": api.ErrForm, ":x @a PING": api.ErrForm, "\xc0": api.ErrForm, "[": api.ErrForm, "`": api.ErrForm,
+		"P-NG": api.ErrForm, ":x :y": api.ErrForm, ":x @a PING": api.ErrForm, "\xc0": api.ErrForm, "[": api.ErrForm, "`": api.ErrForm, "{": api.ErrForm, "A@": api.ErrForm, "00:": api.ErrForm, "/00": api.ErrForm,
 	} {
 		if got, e := message.Parse(line); e != want || !message.Same(got, api.Msg{}) {
 			t.Errorf("Parse(%q) is %v, %d, not %d", line, got, e, want)

@@ -85,8 +85,13 @@ func TestWhois(t *testing.T) {
 	if got := person.Whois("irc.x", "bob", p, slices.Values([]string{"@#a", "#b"}), 4); !slices.Equal(got, want) {
 		t.Errorf("%q", got)
 	}
+	p.Away, p.Oper = "", false
+	want = []string{":irc.x 311 bob ann u h * :Ann A", ":irc.x 319 bob ann #a", ":irc.x 312 bob ann irc.x rollcall", ":irc.x 317 bob ann 0 3 :seconds idle, signon time"}
+	if got := person.Whois("irc.x", "bob", p, slices.Values([]string{"#a"}), 5); !slices.Equal(got, want) {
+		t.Errorf("%q", got)
+	}
 	many := slices.Repeat([]string{"#" + strings.Repeat("x", 40)}, 30)
-	if got := person.Whois("irc.x", "bob", p, slices.Values(many), 4); len(got) != 8 || !strings.HasPrefix(got[3], ":irc.x 319 bob ann :#xx") {
+	if got := person.Whois("irc.x", "bob", p, slices.Values(many), 4); len(got) != 6 || !strings.HasPrefix(got[3], ":irc.x 319 bob ann :#xx") {
 		t.Errorf("%d lines, %q", len(got), got)
 	}
 }

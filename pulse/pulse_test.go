@@ -134,6 +134,28 @@ func TestJoinInThePlaceOfAnother(t *testing.T) {
 	}
 }
 
+func TestLeave(t *testing.T) {
+	p := made(2, 5, 4)
+	for id := range 3 {
+		p.Join(id, 0)
+	}
+	p.Register(0, 0)
+	expect(t, p, 2, "0ask ")
+	p.Register(1, 0)
+	for id := range 3 {
+		p.Leave(id)
+		if n, ok := p.Idle(id, 9); n != 0 || ok {
+			t.Errorf("%d is there: %d, %v", id, n, ok)
+		}
+	}
+	expect(t, p, 1<<40, "")
+	p.Join(1, 0)
+	p.Register(1, 0)
+	p.Join(1, 1)
+	expect(t, p, 4, "")
+	expect(t, p, 5, "1late ")
+}
+
 func TestNumbersThatArentThere(t *testing.T) {
 	p := made(1, 1, 1)
 	p.Register(1, 0)

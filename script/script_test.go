@@ -78,7 +78,7 @@ func TestParseErrors(t *testing.T) {
 	for line, want := range map[string]api.Errno{
 		"x": api.ErrKind, " tick": api.ErrKind, " ": api.ErrKind, "Tick": api.ErrKind, "tick\r": api.ErrKind, "connect\t1 h": api.ErrKind, "ticktick": api.ErrKind, " # x": api.ErrKind, "\x00": api.ErrKind,
 		"tick ": api.ErrForm, "tick x": api.ErrForm, "close": api.ErrForm, "close ": api.ErrForm, "close  1": api.ErrForm, "close 1 ": api.ErrForm, "close 01": api.ErrForm, "close 00": api.ErrForm, "close -1": api.ErrForm, "close +1": api.ErrForm,
-		"close 1234567890": api.ErrForm, "close 1x": api.ErrForm, "close x": api.ErrForm, "close 1\r": api.ErrForm, "connect 1": api.ErrForm, "connect 1 ": api.ErrForm, "connect": api.ErrForm, "connect h": api.ErrForm, "connect 1h": api.ErrForm, "connect  1 h": api.ErrForm,
+		"close 1234567890": api.ErrForm, "close 1x": api.ErrForm, "close 1~": api.ErrForm, "close ~": api.ErrForm, "close 1:": api.ErrForm, "close 1/": api.ErrForm, "close x": api.ErrForm, "close 1\r": api.ErrForm, "connect 1": api.ErrForm, "connect 1 ": api.ErrForm, "connect": api.ErrForm, "connect h": api.ErrForm, "connect 1h": api.ErrForm, "connect  1 h": api.ErrForm,
 		"drain 1": api.ErrForm, "drain 1 ": api.ErrForm, "drain 1 2 ": api.ErrForm, "drain 1  2": api.ErrForm, "drain 1 2 3": api.ErrForm, "drain 1 02": api.ErrForm, "drain 1 -2": api.ErrForm, "drain 1 1234567890": api.ErrForm,
 		"send 1": api.ErrForm, "send 1 ": api.ErrForm, "send 1 x": api.ErrForm, "send 1 \"x": api.ErrForm, "send 1  \"x\"": api.ErrForm, "send 1 \"x\" ": api.ErrForm, "send 1\"x\"": api.ErrForm, `send 1 "\x41"`: api.ErrForm, "send \"x\"": api.ErrForm,
 	} {

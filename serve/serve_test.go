@@ -192,7 +192,7 @@ func TestHeard(t *testing.T) {
 func TestRun(t *testing.T) {
 	s := made(t, nil)
 	b := []byte("PING x\n")
-	events := []api.Event{connect(1), drain(1, 5), {Kind: api.EvBytes, Id: 1, B: b}, drain(1, 0), drain(1, 7), connect(2), tick(), drain(1, 99), drain(9, 9)}
+	events := []api.Event{connect(1), drain(1, 5), {Kind: api.EvBytes, Id: 1, B: b}, drain(1, 0), drain(1, 1), drain(1, 6), connect(2), tick(), drain(1, 99), drain(9, 9)}
 	seq := s.Run(events...)
 	events[0], b[5] = tick(), 'y'
 	if s.There(1) {
@@ -205,7 +205,7 @@ func TestRun(t *testing.T) {
 			b[i] = '?'
 		}
 	}
-	if out != "1:irc.x |1PONG irc.x x\r\n|" || s.Now() != 1 || !s.Live(2) {
+	if out != "1:|1irc.x |1PONG irc.x x\r\n|" || s.Now() != 1 || !s.Live(2) {
 		t.Errorf("%q", out)
 	}
 	for range s.Run(send(1, "PING a\n"), drain(1, 3), drain(1, 3), tick()) {

@@ -154,7 +154,7 @@ func TestUserhost(t *testing.T) {
 	w.be(1, func(p *api.Person) { p.Oper, p.Away = true, "x" })
 	for line, want := range map[string]string{
 		"USERHOST": "461 ann USERHOST :Not enough parameters", "USERHOST :": "302 ann :", "USERHOST x": "302 ann :", "USERHOST bob": "302 ann Bob*=-u@h", "USERHOST ann x :bob ann y bob bob": "302 ann :ann=+u@h Bob*=-u@h ann=+u@h",
-		"USERHOST 1 2 3 4 bob ann": "302 ann Bob*=-u@h",
+		"USERHOST 1  :  2  3   4 bob ann": "302 ann Bob*=-u@h", "USERHOST 1 2 3 4 bob ann": "302 ann Bob*=-u@h",
 	} {
 		w.say(0, line)
 		w.expect(0, ":irc.x "+want)

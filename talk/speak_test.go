@@ -91,6 +91,7 @@ func TestTargets(t *testing.T) {
 	w := made(t, nil).join("ann", "bob", "cid", "dan", "eve", "fay")
 	w.on("#a", 0, 1)
 	w.caps(0, api.CapEcho)
+	w.caps(2, api.CapEcho)
 	w.say(0, "PRIVMSG bob,#a,x,cid,dan,eve hi")
 	w.expect(0, ":irc.x 407 ann dan :Too many targets", ":ann!u@h PRIVMSG bob hi", ":ann!u@h PRIVMSG #a hi", ":irc.x 401 ann x :No such nick", ":ann!u@h PRIVMSG cid hi")
 	w.expect(1, ":ann!u@h PRIVMSG bob hi", ":ann!u@h PRIVMSG #a hi")
@@ -104,6 +105,9 @@ func TestTargets(t *testing.T) {
 	w.say(0, "PRIVMSG bob,,bob,cid hi")
 	w.expect(0, ":ann!u@h PRIVMSG bob hi", ":irc.x 401 ann * :No such nick", ":ann!u@h PRIVMSG bob hi", ":ann!u@h PRIVMSG cid hi")
 	w.expect(1, ":ann!u@h PRIVMSG bob hi", ":ann!u@h PRIVMSG bob hi")
+	w.Drain(2, 999)
+	w.say(2, "PRIVMSG #a,#x hi")
+	w.expect(2, ":irc.x 404 cid #a :Cannot send to channel", ":irc.x 403 cid #x :No such channel")
 	w.say(0, "PRIVMSG ,,,,, hi")
 	w.expect(0, ":irc.x 407 ann * :Too many targets", ":irc.x 401 ann * :No such nick", ":irc.x 401 ann * :No such nick", ":irc.x 401 ann * :No such nick", ":irc.x 401 ann * :No such nick")
 }
