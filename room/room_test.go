@@ -201,13 +201,7 @@ func TestKey(t *testing.T) {
 	}
 	expect(t, r, on('k', "x"), 0, on('k', "x"), 0, "+knt x")
 	expect(t, r, on('k', "x"), 0, api.Change{}, 475, "+knt x")
-	if got := r.Modes(false); !slices.Equal(got, []string{"+knt", "*"}) {
-		t.Errorf("not all: %q", got)
-	}
 	expect(t, r, on('l', "20"), 0, on('l', "20"), 0, "+klnt x 20")
-	if got := r.Modes(false); !slices.Equal(got, []string{"+klnt", "*", "20"}) {
-		t.Errorf("not all: %q", got)
-	}
 	expect(t, r, off('k', "anything"), 0, off('k', "*"), 0, "+lnt 20")
 }
 
@@ -222,6 +216,53 @@ func TestLimit(t *testing.T) {
 	expect(t, r, on('l', "x"), 0, api.Change{}, 0, "+lnt 1")
 	expect(t, r, on('l', "9999"), 0, on('l', "9999"), 0, "+lnt 9999")
 	expect(t, r, off('l', "7"), 0, off('l', ""), 0, "+nt")
+}
+
+func TestModes(t *testing.T) {
+	r := room.New("#a", 5)
+	check := func(all bool, want ...string) {
+		t.Helper()
+		if got := r.Modes(all); !slices.Equal(got, want) {
+			t.Errorf("Modes(%v): %q, not %q", all, got, want)
+		}
+	}
+	check(true, "+nt")
+	check(false, "+nt")
+	r.Change(on('l', "2"), 0)
+	check(true, "+lnt", "2")
+	check(false, "+lnt")
+	r.Change(on('k', "x"), 0)
+	check(true, "+klnt", "x", "2")
+	check(false, "+klnt", "*")
+	r.Change(off('l', ""), 0)
+	check(true, "+knt", "x")
+	check(false, "+knt", "*")
+	for _, letter := range []byte("sim") {
+		r.Change(on(letter, ""), 0)
+	}
+	r.Change(on('l', "9999"), 0)
+	check(true, "+iklmnst", "x", "9999")
+	check(false, "+iklmnst", "*")
+	r.Change(off('k', ""), 0)
+	check(false, "+ilmnst")
+	for _, letter := range []byte("imnstl") {
+		r.Change(off(letter, ""), 0)
+	}
+	check(true, "+")
+	check(false, "+")
+}
+
+func TestModesAreNew(t *testing.T) {
+	r := room.New("#a", 5)
+	r.Change(on('k', "x"), 0)
+	for _, all := range []bool{true, false} {
+		l := r.Modes(all)
+		want := slices.Clone(l)
+		l[0], l[1] = "!", "!"
+		if got := r.Modes(all); !slices.Equal(got, want) {
+			t.Errorf("Modes(%v): %q, not %q", all, got, want)
+		}
+	}
 }
 
 func TestBans(t *testing.T) {
@@ -264,7 +305,7 @@ func TestNilRoom(t *testing.T) {
 	r.Add(1, true)
 	r.SetTopic("x")
 	r.Invite(1)
-	if m, ok := r.Member(1); m != (api.Member{}) || ok || r.Drop(1) || r.Name() != "" || r.Len() != 0 || r.Topic() != "" || r.Flag('n') || len(r.Modes(true)) != 0 || r.MaySpeak(1, "") {
+	if m, ok := r.Member(1); m != (api.Member{}) || ok || r.Drop(1) || r.Name() != "" || r.Len() != 0 || r.Topic() != "" || r.Flag('n') || len(r.Modes(true)) != 0 || len(r.Modes(false)) != 0 || r.MaySpeak(1, "") {
 		t.Error("a nil room has something")
 	}
 	if c, n := r.Change(on('i', ""), 1); c != (api.Change{}) || n != 403 || r.MayJoin(1, "", "") != 403 {
