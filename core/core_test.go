@@ -176,6 +176,72 @@ func TestPerson(t *testing.T) {
 	}
 }
 
+// turn sets the User and the Real of somebody's sign.
+func turn(c *core.Core, id int, user, real string) {
+	s := c.Sign(id)
+	s.User, s.Real = user, real
+	c.SetSign(id, s)
+}
+
+func TestPersonFollowsItsSign(t *testing.T) {
+	c := made(t, nil)
+	join(t, c, 1, "ann")
+	c.SetPerson(api.Person{Id: 1, Away: "out", Oper: true, Hidden: true, Spoke: 5})
+	want := api.Person{Id: 1, Nick: "ann", User: "u", Host: "h", Real: "r", Away: "out", Oper: true, Hidden: true, Spoke: 5}
+	check := func(when string) {
+		t.Helper()
+		p, ok := c.Person(1)
+		if s := c.Sign(1); !ok || p != want || s.Nick != p.Nick || s.User != p.User || s.Real != p.Real {
+			t.Errorf("%s: %v, not %v; the sign is %v", when, p, want, s)
+		}
+	}
+	check("registered")
+	turn(c, 1, "v", "s s")
+	want.User, want.Real = "v", "s s"
+	check("behind SetSign")
+	c.SetPerson(api.Person{Id: 1, Nick: "x", User: "w", Real: "t", Spoke: 6})
+	want.Away, want.Oper, want.Hidden, want.Spoke = "", false, false, 6
+	check("behind SetPerson")
+	c.Claim(1, "Bob")
+	want.Nick = "Bob"
+	check("behind Claim")
+	c.Register(1)
+	check("behind Register of one that is registered")
+	c.SetSign(1, api.Sign{Nick: "x", Done: false})
+	want.User, want.Real = "", ""
+	check("behind SetSign of nothing")
+}
+
+func TestWhatIsToldOfAPersonFollowsItsSign(t *testing.T) {
+	c := made(t, nil)
+	join(t, c, 1, "ann")
+	join(t, c, 2, "bob")
+	for _, name := range []string{"ann", "Eve"} {
+		c.Monitor().Add(2, name)
+		c.Watch().Add(2, name)
+	}
+	c.Rooms().Join(1, "#a")
+	c.Rooms().Join(2, "#a")
+	turn(c, 1, "v", "s")
+	expect(t, c, 2)
+	c.Claim(1, "Eve")
+	expect(t, c, 2, ":irc.x 731 bob ann", ":irc.x 601 bob ann v h 0 :logged offline", ":irc.x 730 bob Eve!v@h", ":irc.x 600 bob Eve v h 0 :logged online")
+	turn(c, 1, "w", "t t")
+	c.Leave(1, "x")
+	expect(t, c, 2, ":Eve!w@h QUIT x", ":irc.x 731 bob Eve", ":irc.x 601 bob Eve w h 0 :logged offline")
+	want := api.Person{Id: 1, Nick: "Eve", User: "w", Host: "h", Real: "t t"}
+	for name, p := range c.Past().All() {
+		if name != "Eve" || p != want {
+			t.Errorf("the past: %q, %v, not %v", name, p, want)
+		}
+	}
+	c.SetPerson(api.Person{Id: 1, Oper: true})
+	join(t, c, 1, "ann")
+	if p, _ := c.Person(1); p != (api.Person{Id: 1, Nick: "ann", User: "u", Host: "h", Real: "r"}) {
+		t.Errorf("another one of that number: %v", p)
+	}
+}
+
 func TestClaimAndHolder(t *testing.T) {
 	c := made(t, nil)
 	c.Connect(1, "h")

@@ -381,3 +381,18 @@ func TestInvite(t *testing.T) {
 	w.say(2, "INVITE dan #a")
 	w.expect(3, ":cid!u@h INVITE dan #A")
 }
+
+func TestWhoItIsFollowsItsSign(t *testing.T) {
+	w := made(t, nil).join("ann", "bob")
+	s := w.Sign(0)
+	s.User = "v"
+	w.SetSign(0, s)
+	w.on("#a", 0, 1)
+	w.on("#b", 1)
+	w.modes("#b", on('b', "*!v@*"))
+	for _, line := range []string{"TOPIC #a hi", "MODE #a +m", "INVITE bob #a", "PART #a", "JOIN #b"} {
+		w.say(0, line)
+	}
+	w.expect(1, ":ann!v@h TOPIC #a hi", ":ann!v@h MODE #a +m", ":ann!v@h PART #a")
+	w.expect(0, ":ann!v@h TOPIC #a hi", ":ann!v@h MODE #a +m", ":irc.x 443 ann bob #a :is already on channel", ":ann!v@h PART #a", ":irc.x 474 ann #b :Cannot join channel (+b)")
+}

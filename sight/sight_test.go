@@ -107,6 +107,37 @@ func (w world) secret(name string) {
 func hide(p *api.Person)  { p.Hidden = true }
 func raise(p *api.Person) { p.Oper = true }
 
+// turn sets the User and the Real of somebody's sign.
+func (w world) turn(id int, user, real string) {
+	s := w.Sign(id)
+	s.User, s.Real = user, real
+	w.SetSign(id, s)
+}
+
+func TestWhatIsSeenFollowsTheSign(t *testing.T) {
+	w := made(t, nil).join("ann", "bob")
+	w.on("#a", 1)
+	w.turn(1, "v", "s s")
+	for line, want := range map[string][]string{
+		"USERHOST bob":  {":irc.x 302 ann bob=+v@h"},
+		"WHO bob":       {":irc.x 352 ann * v h irc.x bob H :0 s s", ":irc.x 315 ann bob :End of WHO list"},
+		"WHO v":         {":irc.x 352 ann * v h irc.x bob H :0 s s", ":irc.x 315 ann v :End of WHO list"},
+		"WHO #a":        {":irc.x 352 ann #a v h irc.x bob H@ :0 s s", ":irc.x 315 ann #a :End of WHO list"},
+		"WHOIS bob":     {":irc.x 311 ann bob v h * :s s", ":irc.x 319 ann bob @#a", ":irc.x 312 ann bob irc.x rollcall", ":irc.x 317 ann bob 0 0 :seconds idle, signon time", ":irc.x 318 ann bob :End of WHOIS list"},
+		"MONITOR + bob": {":irc.x 730 ann bob!v@h"},
+		"WATCH +bob":    {":irc.x 604 ann bob v h 0 :is online"},
+	} {
+		w.say(0, line)
+		w.expect(0, want...)
+	}
+	w.turn(1, "w", "")
+	w.say(0, "WHOIS bob")
+	w.Leave(1, "x")
+	w.quiet()
+	w.say(0, "WHOWAS bob")
+	w.expect(0, ":irc.x 314 ann bob w h * :", ":irc.x 312 ann bob irc.x rollcall", ":irc.x 369 ann bob :End of WHOWAS")
+}
+
 func TestKnows(t *testing.T) {
 	for _, command := range strings.Fields("ISON USERHOST WHOIS WHO WHOWAS MONITOR WATCH") {
 		if !sight.Knows(command) || sight.Knows(strings.ToLower(command)) {

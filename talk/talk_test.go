@@ -242,6 +242,20 @@ func TestNick(t *testing.T) {
 	w.expect(7, ":irc.x 433 sue bob :Nickname is already in use")
 }
 
+func TestWhoItIsFollowsItsSign(t *testing.T) {
+	w := made(t, func(c *api.Config) { c.OperName, c.OperPass = "op", "pw" }).join("ann", "bob")
+	w.on("#a", 0, 1)
+	w.caps(1, api.CapAway)
+	s := w.Sign(0)
+	s.User = "v"
+	w.SetSign(0, s)
+	for _, line := range []string{"PRIVMSG #a hi", "NOTICE bob hi", "AWAY out", "NICK x", "OPER op pw", "QUIT"} {
+		w.say(0, line)
+	}
+	w.expect(1, ":ann!v@h PRIVMSG #a hi", ":ann!v@h NOTICE bob hi", ":ann!v@h AWAY out", ":ann!v@h NICK x", ":x!v@h QUIT :Client Quit")
+	w.expect(0, ":irc.x 306 ann :You have been marked as being away", ":ann!v@h NICK x", ":irc.x 381 x :You are now an IRC operator", ":x!v@h MODE x +o", "ERROR :Closing Link: h (Client Quit)")
+}
+
 func TestPingPongQuit(t *testing.T) {
 	w := made(t, nil)
 	w.Connect(1, "h")
